@@ -1,0 +1,1 @@
+"""Rightstate: objects whose methods are allowed in some states alone."""
