@@ -4,8 +4,6 @@ A form is what can be seen of a thing alone. Whether there is a kind, a function
 is for the program to tell.
 """
 
-LETTERS = "abcdefghijklmnopqrstuvwxyz"
-CAPITALS = "ABCDEFGHIJKLMNOPQRSTUVWXYZ"
 MOST_SIGNS = 8
 
 # The parts of each statement behind its first word. A "result" is a variable or None.
@@ -40,19 +38,17 @@ def is_pair(thing):
     return is_row(thing) and len(thing) == 2
 
 
-def _is_text_of(thing, signs):
-    # The length comes first, so that no long text is gone through.
-    return isinstance(thing, str) and 1 <= len(thing) <= MOST_SIGNS and all([sign in signs for sign in thing])
-
-
 def is_name(thing):
     """Whether this is a text of 1 to 8 small letters."""
-    return _is_text_of(thing, LETTERS)
+    # The length comes first, so that no long text is gone through.
+    return (isinstance(thing, str) and len(thing) <= MOST_SIGNS
+            and thing.isascii() and thing.isalpha() and thing.islower())
 
 
 def is_error(thing):
     """Whether this is a text of 1 to 8 capital letters."""
-    return _is_text_of(thing, CAPITALS)
+    return (isinstance(thing, str) and len(thing) <= MOST_SIGNS
+            and thing.isascii() and thing.isalpha() and thing.isupper())
 
 
 def is_word(thing):

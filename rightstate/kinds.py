@@ -13,56 +13,72 @@ def _is_key(thing):
     return isinstance(thing, tuple) and len(thing) == 2 and isinstance(thing[0], str) and isinstance(thing[1], str)
 
 
-def _are_outcomes(thing):
-    if not is_row(thing) or len(thing) > MOST_OUTCOMES:
+def _are_rows(moves):
+    if not isinstance(moves, dict) or not all([_is_key(key) for key in moves]):
         return False
-    if not all([is_pair(one) and is_word(one[0]) and is_name(one[1]) for one in thing]):
+    return not [row for row in moves.values() if not isinstance(row, (list, tuple)) or len(row) > MOST_OUTCOMES]
+
+
+def _with_tuples(moves):
+    """The same moves, with tuples in the place of those outcomes that are lists."""
+    return {key: [tuple(one) if isinstance(one, list) else one for one in moves[key]] for key in moves}
+
+
+def _pairs_of_texts(rows):
+    """Those outcomes of all rows that are tuples of two texts, in one list."""
+    # There may be thousands of outcomes: no function is called for each of them.
+    return [one for row in rows for one in row if isinstance(one, tuple) and len(one) == 2
+            and isinstance(one[0], str) and isinstance(one[1], str)]
+
+
+def _are_right(words, states, methods):
+    """Whether these are words, not too many states, and not too many methods."""
+    if len(states) > MOST_STATES or len(methods) > MOST_METHODS or not all([is_word(word) for word in words]):
         return False
-    return len({(word, state) for word, state in thing}) == len(thing)
+    return all([is_name(name) for name in states]) and all([is_name(name) for name in methods])
 
 
-def _is_move(key, outcomes):
-    return _is_key(key) and is_name(key[0]) and is_name(key[1]) and _are_outcomes(outcomes)
+def _read_moves(moves, start, ends):
+    """The states, the methods, and the moves with sorted tuples of outcomes.
+
+    The same names and words come again and again in the moves; each of them is looked at but once.
+    """
+    if not _are_rows(moves):
+        raise BadKind("moves")
+    many = sum([len(row) for row in moves.values()])
+    pairs = _pairs_of_texts(list(moves.values()))
+    if len(pairs) != many:
+        moves = _with_tuples(moves)
+        pairs = _pairs_of_texts(list(moves.values()))
+    if len(pairs) != many:
+        raise BadKind("moves")
+    states = sorted(set([start] + list(ends) + [state for state, _ in moves] + [state for _, state in pairs]))
+    methods = sorted({method for _, method in moves})
+    if not _are_right(sorted({word for word, _ in pairs}), states, methods):
+        raise BadKind("moves")
+    if [row for row in moves.values() if len(set(row)) != len(row)]:
+        raise BadKind("moves")
+    return states, methods, {key: tuple(sorted(moves[key])) for key in moves}
 
 
-def _states_of(start, ends, moves):
-    found = [start] + list(ends)
-    for state, method in moves:
-        found.append(state)
-        found.extend([behind for _, behind in moves[state, method]])
-    return sorted(set(found))
-
-
-def _methods_of(moves):
-    return sorted({method for _, method in moves})
-
-
-def _are_moves(moves, start, ends):
-    if not isinstance(moves, dict) or not all([_is_move(key, moves[key]) for key in moves]):
-        return False
-    return len(_states_of(start, ends, moves)) <= MOST_STATES and len(_methods_of(moves)) <= MOST_METHODS
-
-
-def _check_parts(name, start, ends, moves):
+def _check_parts(name, start, ends):
     if not is_name(name):
         raise BadKind("name")
     if not is_name(start):
         raise BadKind("start")
     if not are_unlike_names(ends):
         raise BadKind("ends")
-    if not _are_moves(moves, start, ends):
-        raise BadKind("moves")
 
 
 class Kind:
     """A kind of objects; it never changes."""
 
     def __init__(self, name, start, ends, moves):
-        _check_parts(name, start, ends, moves)
+        _check_parts(name, start, ends)
         self._name = name
         self._start = start
         self._ends = tuple(sorted(ends))
-        self._moves = {key: tuple(sorted([tuple(one) for one in moves[key]])) for key in sorted(moves)}
+        self._states, self._methods, self._moves = _read_moves(moves, start, ends)
 
     @property
     def name(self):
@@ -81,15 +97,15 @@ class Kind:
 
     def states(self):
         """The sorted list of all states."""
-        return _states_of(self._start, self._ends, self._moves)
+        return list(self._states)
 
     def methods(self):
         """The sorted list of all methods."""
-        return _methods_of(self._moves)
+        return list(self._methods)
 
     def moves(self):
         """The dict of all moves, from (state, method) to the sorted tuple of outcomes (word, state)."""
-        return {key: self._moves[key] for key in self._moves}
+        return {key: self._moves[key] for key in sorted(self._moves)}
 
     def renamed(self, name):
         """The same kind with another name."""
@@ -121,20 +137,19 @@ def _check_history(history):
             raise BadHistory(index)
 
 
-def _states_behind(moves, states, method, word):
+def _states_behind(kind, states, method, word):
     found = []
     for state in states:
-        found.extend([behind for told, behind in moves.get((state, method), ()) if told == word])
+        found.extend([behind for told, behind in kind[state, method] or () if told == word])
     return sorted(set(found))
 
 
 def after(kind, history):
     """The sorted list of the states in which an object can be behind the history; [] if it cannot come."""
     _check_history(history)
-    moves = kind.moves()
     states = [kind.start]
     for method, word in history:
-        states = _states_behind(moves, states, method, word)
+        states = _states_behind(kind, states, method, word)
     return states
 
 

@@ -14,7 +14,7 @@ BUILTINS = set("""len range enumerate zip min max sum abs sorted reversed int st
     NotImplemented property super staticmethod classmethod iter next map""".split())
 METHODS = set("""append clear copy count endswith extend find get index insert isalnum isalpha isdigit islower isspace
     isupper items join keys ljust lower lstrip partition pop remove replace reverse rfind rjust rpartition rsplit
-    rstrip setdefault split splitlines startswith strip update upper values zfill bit_length add discard sort
+    rstrip setdefault split splitlines startswith strip update upper values zfill bit_length add discard sort isascii
     """.split())
 SPECIAL = set("__init__ __eq__ __len__ __enter__ __exit__ __call__ __iter__ __contains__ __getitem__ __setitem__".split())
 BARRED_WORDS = re.compile(r"\b(type|typing|enum|Enum|IntEnum|StrEnum|Flag|IntFlag|Generic|Protocol|ABC|ABCMeta|"
