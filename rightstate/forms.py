@@ -5,6 +5,8 @@ is for the program to tell.
 """
 
 MOST_SIGNS = 8
+# No place, and no part of a row or an exit, has more elements.
+MOST_PARTS = 20
 
 # The parts of each statement behind its first word. A "result" is a variable or None.
 STATEMENTS = {
@@ -54,6 +56,23 @@ def is_error(thing):
 def is_word(thing):
     """Whether a method can answer this: "yes", "no" or an error."""
     return is_error(thing) or (isinstance(thing, str) and thing in ("yes", "no"))
+
+
+def is_integer(thing):
+    """Whether this is an integer; True and False are none."""
+    return isinstance(thing, int) and not isinstance(thing, bool)
+
+
+def is_number(thing, least, most):
+    """Whether this is an integer within these bounds."""
+    return is_integer(thing) and least <= thing <= most
+
+
+def is_plain(thing, deep):
+    """Whether this is a text, an integer, or a row of such, at most so deep and nowhere longer than what is told."""
+    if is_row(thing):
+        return deep > 0 and len(thing) <= MOST_PARTS and all([is_plain(one, deep - 1) for one in thing])
+    return isinstance(thing, str) or is_integer(thing)
 
 
 def are_unlike_names(thing):

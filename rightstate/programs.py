@@ -1,6 +1,7 @@
 """Programs: kinds, and functions that make objects of them and call their methods."""
 
 from rightstate.errors import BadProgram, NoFunction, NoKind
+from rightstate.flows import Flow
 from rightstate.forms import are_unlike_names, frozen, is_name, is_row, is_statement, statements_of, variables_in
 from rightstate.kinds import Kind
 
@@ -85,16 +86,6 @@ def _check_program(kinds, functions):
             raise BadProgram(place)
 
 
-def _points_of(number, body):
-    found = [(number, len(body))]
-    for place, statement, _ in statements_of(body, (number,), ()):
-        if statement[0] != "try":
-            found.append(place)
-        if statement[0] == "with":
-            found.append(place + (1,))
-    return found
-
-
 class Program:
     """Kinds and functions; it never changes."""
 
@@ -102,8 +93,7 @@ class Program:
         _check_program(kinds, functions)
         self._kinds = tuple(kinds)
         self._functions = frozen(functions)
-        self._named = {kind.name: kind for kind in self._kinds}
-        self._numbers = {function[0]: number for number, function in enumerate(self._functions)}
+        self._flow = Flow(self._kinds, self._functions)
 
     def kinds(self):
         """The list of the kinds."""
@@ -115,40 +105,35 @@ class Program:
 
     def kind_of(self, name):
         """The kind with this name."""
-        if not is_name(name) or name not in self._named:
+        if not is_name(name) or name not in self._flow.kind_by_name:
             raise NoKind(name)
-        return self._named[name]
+        return self._flow.kind_by_name[name]
 
     def variables(self, function):
         """The list of the variables of the function with this name, the parameters first."""
-        number = self.number_of(function)
-        _, params, body = self._functions[number]
-        named = {variable: True for variable in params}
-        for _, statement, _ in statements_of(body, (number,), ()):
-            for variable in variables_in(statement):
-                named[variable] = True
-        return list(named)
+        return list(self._flow.variable_rows[self.number_of(function)])
 
     def number_of(self, function):
         """The number of the function with this name."""
-        if not is_name(function) or function not in self._numbers:
+        if not is_name(function) or function not in self._flow.numbers:
             raise NoFunction(function)
-        return self._numbers[function]
+        return self._flow.numbers[function]
 
     def replaced(self, kind):
         """The program with this kind in the place of that with the same name."""
         if not isinstance(kind, Kind):
             raise NoKind(kind)
-        if kind.name not in self._named:
+        if kind.name not in self._flow.kind_by_name:
             raise NoKind(kind.name)
         return Program([kind if one.name == kind.name else one for one in self._kinds], self._functions)
 
     def points(self):
         """The sorted list of all points of all functions."""
-        found = []
-        for number, function in enumerate(self._functions):
-            found.extend(_points_of(number, function[2]))
-        return sorted(found)
+        return sorted(list(self._flow.point_at))
+
+    def laid_out(self):
+        """How the program is laid out in points, for those who run it."""
+        return self._flow
 
     def __eq__(self, other):
         return isinstance(other, Program) and self._kinds == other._kinds and self._functions == other._functions
