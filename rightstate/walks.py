@@ -84,7 +84,7 @@ class Machine:
         elif what == "run":
             self._begin(where, refs)
         elif what == "over":
-            self._end(where, refs[0])
+            self._finish(where, refs[0])
         elif what == "wrong":
             self.over = ("wrong", self.stands_at(), where)
         else:
@@ -108,7 +108,7 @@ class Machine:
         refs = values + (0,) * (flow.size_of(function) - len(values))
         self._stack.append(Activation(function, entry, olds, flow.begins[function], refs, ()))
 
-    def _end(self, how, value):
+    def _finish(self, how, value):
         """The last activation is over; the one that ran it goes on, if there is one."""
         self._stack.pop()
         if len(self._stack) == 0:

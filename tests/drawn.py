@@ -1,5 +1,7 @@
 """Small programs, drawn by a random source that each test makes for itself."""
 
+import random
+
 from rightstate.kinds import Kind
 from rightstate.programs import Program
 
@@ -118,3 +120,21 @@ def draw_guards(chance, program):
     if chance.random() < 0.3:
         return points
     return chance.sample(points, chance.randint(0, min(4, len(points))))
+
+
+def draw_all(seed, many, sizes=(5, 15, 25), recursive=True):
+    """Tells (chance, program, guards) of so many programs; half of them have no guards."""
+    chance = random.Random(seed)
+    for _ in range(many):
+        program = draw_program(chance, chance.choice(sizes), recursive=recursive)
+        yield chance, program, draw_guards(chance, program) if chance.random() < 0.5 else []
+
+
+def widened(chance, program):
+    """The program with one of its kinds in which all is allowed: what was barred leaves all as it is."""
+    kind = chance.choice(program.kinds())
+    moves = kind.moves()
+    for state in kind.states():
+        for method in kind.methods() + METHODS:
+            moves.setdefault((state, method), [("yes", state)])
+    return program.replaced(Kind(kind.name, kind.start, kind.states(), moves))

@@ -22,6 +22,39 @@ SECTION_5 = '''
 (['f', 'g'], ['a', 'b'], [(0, 0), (0, 1), (0, 2), (0, 2, 1), (0, 3), (1, 0), (1, 0, 0, 0), (1, 1), (1, 2)])
 '''
 
+SECTION_6 = '''
+>>> from rightstate.walks import walk, runs
+>>> walk(program, [1]).end(), walk(program, [0, 1]).end(), walk(program, []).end(), walk(program, [0, 1]).places()
+(('wrong', (0, 2), ('barred', 'file', 'new', 'enter')), ('wrong', (0, 2), ('barred', 'file', 'open', 'enter')), ('open',), [(0, 0), (0, 1), (1, 0), (1, 0, 0, 0), (1, 1), (1, 2), (0, 1), (0, 2)])
+>>> list(runs(program, 1))
+[((0,), ('open',)), ((1,), ('wrong', (0, 2), ('barred', 'file', 'new', 'enter')))]
+'''
+
+SECTION_7 = '''
+>>> from rightstate.tables import table
+>>> found = table(program)
+>>> found.entries()
+[('main', ((), ())), ('twice', ((1, 1), (('file', 'new'),)))]
+>>> found.exits("twice", ((1, 1), (("file", "new"),)))
+[('LOST', ('new',), ('none',)), ('return', ('new',), ('old', 1)), ('return', ('open',), ('old', 1))]
+>>> found.wrongs()
+[((0, 2), ('barred', 'file', 'new', 'enter')), ((0, 2), ('barred', 'file', 'open', 'enter'))]
+>>> found.rows()[1], len(found)
+(('main', ((), ()), (0, 1), ((1, 0), (('file', 'new'),), ())), 14)
+'''
+
+SECTION_9 = '''
+>>> from rightstate.papers import paper_fault
+>>> from rightstate.shortest import run_to, steps_to_wrong, wrong_run
+>>> steps_to_wrong(program), wrong_run(program)
+((7, (0, 2), ('barred', 'file', 'new', 'enter')), (1,))
+>>> run_to(program, ("main", ((), ()), (0, 3), ((1, 0), (("file", "new"),), ("raise", "LOST"))))
+(5, (0, 0))
+>>> begin = ("main", ((), ()), (0, 0), ((0, 0), (), ()))
+>>> paper_fault(program, [], []), paper_fault(program, [begin], [])
+(('begin',), ('step', 0, ('main', ((), ()), (0, 1), ((1, 0), (('file', 'new'),), ()))))
+'''
+
 README = os.path.join(os.path.dirname(os.path.dirname(os.path.abspath(__file__))), "README.md")
 
 
@@ -34,7 +67,7 @@ class Examples(unittest.TestCase):
         self.assertEqual(result.failed, 0, "".join(said))
 
     def test_document(self):
-        self.run_examples(SECTION_4 + SECTION_5, "the document")
+        self.run_examples("".join([SECTION_4, SECTION_5, SECTION_6, SECTION_7, SECTION_9]), "the document")
 
     def test_readme(self):
         with open(README, encoding="utf-8") as file:

@@ -333,5 +333,73 @@ class Bad(unittest.TestCase):
         self.assertEqual(kind.ends, tuple(states))
 
 
+class Great(unittest.TestCase):
+    """One outcome of thousands, as a tuple or a list among tuples or lists, is looked at as any other."""
+
+    STATES = names(60)
+    METHODS = ["m" + letter for letter in "abcdefgh"]
+    WORDS = ["yes", "no", "E", "F", "G", "H", "I", "J"]
+
+    def moves(self, build=tuple):
+        return {(state, method): [build((word, self.STATES[(at + k) % 60])) for k, word in enumerate(self.WORDS)]
+                for at, state in enumerate(self.STATES) for method in self.METHODS}
+
+    def check(self, moves, expected):
+        kind = Kind("great", self.STATES[0], [], moves)
+        self.assertEqual(kind.moves(), {key: tuple(sorted(expected[key])) for key in expected})
+        self.assertEqual((kind.states(), kind.methods()), (sorted(self.STATES), sorted(self.METHODS)))
+        for outcomes in kind.moves().values():
+            self.assertEqual({type(outcomes)} | {type(one) for one in outcomes}, {tuple})
+        return kind
+
+    def test_lists_and_tuples(self):
+        self.check(self.moves(), self.moves())
+        self.check(self.moves(list), self.moves())
+        mixed = self.moves()
+        for at, key in enumerate(mixed):
+            mixed[key][at % 8] = list(mixed[key][at % 8])
+            mixed[key] = tuple(mixed[key]) if at % 3 else mixed[key]
+        self.check(mixed, self.moves())
+        self.check(dict(reversed(list(mixed.items()))), self.moves())
+
+    def test_what_is_changed_behind(self):
+        for build in (tuple, list):
+            moves = self.moves(build)
+            kind = self.check(moves, self.moves())
+            for row in moves.values():
+                if build == list:
+                    row[0][0] = "Z"
+                row.append(("yes", "other"))
+            moves.clear()
+            kind.moves().clear()
+            kind.states().append("other")
+            kind.methods().append("other")
+            self.assertEqual(kind, Kind("great", self.STATES[0], [], self.moves()))
+            self.assertEqual((kind.states(), kind.methods()), (sorted(self.STATES), sorted(self.METHODS)))
+
+    def test_one_is_spoilt(self):
+        strange = no_texts() + rows() + [("yes",), ("yes", "naa", "naa"), ["yes"], [], ("maybe", "naa"), ("yes", "Naa"), "yn"]
+        strange += [("yes", thing) for thing in no_texts()[::3]] + [[thing, "naa"] for thing in no_texts()[::3]]
+        strange += [("K", "nzz"), ["K", "nzz"]]
+        places = [(self.STATES[0], "ma", 0), (self.STATES[31], "md", 4), (self.STATES[59], "mh", 7)]
+        for at, thing in enumerate(strange):
+            moves = self.moves(list if at % 2 else tuple)
+            state, method, index = places[at % 3]
+            moves[state, method][index] = thing
+            self.refused(moves)
+
+    def test_one_stands_there_twice(self):
+        for build in (list, tuple):
+            for other in (list, tuple):
+                moves = self.moves(build)
+                moves[self.STATES[59], "mh"][7] = other(moves[self.STATES[59], "mh"][0])
+                self.refused(moves)
+
+    def refused(self, moves):
+        with self.assertRaises(BadKind) as caught:
+            Kind("great", self.STATES[0], [], moves)
+        self.assertEqual(caught.exception.part, "moves")
+
+
 if __name__ == "__main__":
     unittest.main()

@@ -75,7 +75,9 @@ class Language(unittest.TestCase):
                 if node.module.startswith("rightstate."):
                     there = node.module.split(".")[1]
                     reached[name[:-3]].add(there)
-                    defined = [one.name for one in ast.parse(read(there + ".py")).body if hasattr(one, "name")]
+                    tree = ast.parse(read(there + ".py"))
+                    defined = [one.name for one in tree.body if hasattr(one, "name")]
+                    defined += [one.targets[0].id for one in tree.body if isinstance(one, ast.Assign)]
                     self.assertLessEqual({one.name for one in node.names}, set(defined))
                 else:
                     self.assertIn(node.module, LIBRARY)
@@ -142,6 +144,36 @@ class Language(unittest.TestCase):
             inside = [arg for call in calls if ast.unparse(call.func) in ("sorted", "len") for arg in call.args]
             for node in nodes(name, ast.Set, ast.SetComp):
                 self.assertIn(ast.unparse(node), [ast.unparse(arg) for arg in inside])
+
+    def test_attributes_have_names_of_their_own(self):
+        methods, attributes = set(), set()
+        for name in package_files():
+            for node in nodes(name, ast.ClassDef):
+                methods.update(one.name for one in node.body if isinstance(one, ast.FunctionDef))
+            attributes.update(node.attr for node in nodes(name, ast.Attribute) if isinstance(node.ctx, ast.Store))
+        self.assertEqual(methods & attributes, set())
+
+    def test_what_is_iterated_on_the_spot(self):
+        takers = ("list", "tuple", "sorted", "sum", "min", "max", "any", "all", "enumerate", "zip", "reversed", "len")
+        for name in package_files():
+            for call in nodes(name, ast.Call):
+                for arg in call.args:
+                    if re.match(r"(range|zip|enumerate|reversed|map)\(|.*\.(items|keys|values)\(\)$", ast.unparse(arg)):
+                        self.assertIn(ast.unparse(call.func), takers)
+
+    def test_is(self):
+        for name in package_files():
+            for node in nodes(name, ast.Compare):
+                if isinstance(node.ops[0], (ast.Is, ast.IsNot)):
+                    self.assertIn(ast.unparse(node.comparators[0]), ("None", "True", "False"))
+
+    def test_names_of_imports_and_classes_have_no_other_meaning(self):
+        for name in package_files():
+            taken = {one.name for node in nodes(name, ast.ImportFrom) for one in node.names}
+            taken.update(node.name for node in nodes(name, ast.ClassDef))
+            found = [node.id for node in nodes(name, ast.Name) if isinstance(node.ctx, ast.Store)]
+            found += [node.arg for node in nodes(name, ast.arg)]
+            self.assertEqual(taken & set(found), set())
 
     def test_classes_with_brackets_tell_that_they_are_not_iterated_over(self):
         for name in package_files():

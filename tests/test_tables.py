@@ -4,7 +4,7 @@ import itertools
 import random
 import unittest
 
-from drawn import draw_guards, draw_program
+from drawn import draw_all, draw_program, widened
 from judge import stand_at
 from reference import Run, reach
 from rightstate.errors import TooMany
@@ -186,15 +186,9 @@ def steps_of(row, program, guards):
 
 
 class Drawn(unittest.TestCase):
-    def draw(self, seed, many, recursive):
-        chance = random.Random(seed)
-        for _ in range(many):
-            program = draw_program(chance, chance.choice([5, 15, 25]), recursive=recursive)
-            yield chance, program, draw_guards(chance, program) if chance.random() < 0.5 else []
-
     def test_exactly_what_comes(self):
         wholes = 0
-        for chance, program, guards in self.draw(70, 250, False):
+        for chance, program, guards in draw_all(70, 250, recursive=False):
             rows, wrongs, whole = reach(program, 5, 1500, guards)
             found = table(program, guards=guards)
             self.assertLessEqual(set(rows), set(found.rows()))
@@ -206,7 +200,7 @@ class Drawn(unittest.TestCase):
         self.assertGreater(wholes, 200)
 
     def test_each_row_of_a_walk_is_a_row_of_the_table(self):
-        for chance, program, guards in self.draw(71, 250, True):
+        for chance, program, guards in draw_all(71, 250):
             found = table(program, guards=guards)
             for _ in range(5):
                 choices = [chance.randint(0, 3) for _ in range(30)]
@@ -217,7 +211,7 @@ class Drawn(unittest.TestCase):
                     self.assertIn(one.end()[1:], found.wrongs())
 
     def test_closed(self):
-        for chance, program, guards in self.draw(72, 150, True):
+        for chance, program, guards in draw_all(72, 150):
             found = table(program, guards=guards)
             for row in found.rows():
                 for twin in steps_of(row, program, guards):
@@ -227,7 +221,7 @@ class Drawn(unittest.TestCase):
                         self.assertIn(twin.row(), found)
 
     def test_summaries(self):
-        for chance, program, guards in self.draw(73, 150, True):
+        for chance, program, guards in draw_all(73, 150):
             for function, params, _ in program.functions():
                 entry = chance.choice(all_entries(program, len(params)))
                 found = summary(program, function, entry, guards=guards)
@@ -237,7 +231,7 @@ class Drawn(unittest.TestCase):
                     self.assertEqual((found.rows(), found.wrongs()), (sorted(rows), sorted(wrongs)))
 
     def test_entries_of_a_table(self):
-        for chance, program, guards in self.draw(74, 150, True):
+        for chance, program, guards in draw_all(74, 150):
             found = table(program, guards=guards)
             for function, entry in found.entries():
                 part = summary(program, function, entry, guards=guards)
@@ -248,7 +242,7 @@ class Drawn(unittest.TestCase):
             self.assertEqual(summary(program, "main", EMPTY, guards=guards), found)
 
     def test_more_guards_more_rows(self):
-        for chance, program, guards in self.draw(75, 150, True):
+        for chance, program, guards in draw_all(75, 150):
             found = table(program, guards=guards)
             more = table(program, guards=guards + [place for place, _ in found.wrongs()])
             self.assertLessEqual(set(found.rows()), set(more.rows()))
@@ -418,13 +412,7 @@ class Added(unittest.TestCase):
         chance = random.Random(80)
         for _ in range(100):
             program = draw_program(chance, 15)
-            kind = chance.choice(program.kinds())
-            moves = kind.moves()
-            for state in kind.states():
-                for method in kind.methods() + ["m"]:
-                    moves.setdefault((state, method), [("yes", state)])
-            more = Kind(kind.name, kind.start, kind.states(), moves)
-            found, there = table(program), table(program.replaced(more))
+            found, there = table(program), table(widened(chance, program))
             self.assertLessEqual(set(found.rows()), set(there.rows()))
             if found.is_safe():
                 self.assertEqual(there, found)

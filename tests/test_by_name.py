@@ -1,0 +1,111 @@
+"""Sections 2 and 4 to 9: arguments by their names, in any order, as by place."""
+
+import inspect
+import itertools
+import unittest
+
+from rightstate.errors import RightError
+from rightstate.kinds import Kind, after, allowed
+from rightstate.papers import paper_fault, paper_of
+from rightstate.programs import Program
+from rightstate.shortest import run_to, steps_to_wrong, wrong_run
+from rightstate.tables import summary, table
+from rightstate.walks import Walk, runs, walk
+from samples import FILE_MOVES, MAIN, TWICE, make_file, make_program
+from things import main_row
+
+PROGRAM = make_program()
+ENTRY = ((1, 1), (("file", "new"),))
+GUARDS = [(0, 2), (0, 3)]
+# Each function with its arguments in the order of the document; the names behind the star come last.
+ASKED = [
+    (Kind, {"name": "file", "start": "new", "ends": ["new"], "moves": FILE_MOVES}, []),
+    (make_file().renamed, {"name": "other"}, []),
+    (after, {"kind": make_file(), "history": [("open", "no")]}, []),
+    (allowed, {"kind": make_file(), "history": [("open", "no")]}, []),
+    (Program, {"kinds": [make_file()], "functions": [MAIN, TWICE]}, []),
+    (PROGRAM.kind_of, {"name": "file"}, []),
+    (PROGRAM.variables, {"function": "twice"}, []),
+    (PROGRAM.number_of, {"function": "twice"}, []),
+    (PROGRAM.replaced, {"kind": make_file()}, []),
+    (walk, {"program": PROGRAM, "choices": [0, 1], "most": 5, "guards": GUARDS}, ["most", "guards"]),
+    (runs, {"program": PROGRAM, "many": 2, "most": 9, "guards": GUARDS}, ["most", "guards"]),
+    (table, {"program": PROGRAM, "guards": GUARDS}, ["guards"]),
+    (summary, {"program": PROGRAM, "function": "twice", "entry": ENTRY, "guards": GUARDS}, ["guards"]),
+    (table(PROGRAM).exits, {"function": "twice", "entry": ENTRY}, []),
+    (paper_fault, {"program": PROGRAM, "rows": [main_row((0, 0), (0, 0))], "exits": [], "guards": GUARDS}, ["guards"]),
+    (paper_of, {"program": PROGRAM, "guards": GUARDS}, ["guards"]),
+    (steps_to_wrong, {"program": PROGRAM, "guards": GUARDS[:1]}, ["guards"]),
+    (wrong_run, {"program": PROGRAM, "guards": GUARDS[:1]}, ["guards"]),
+    (run_to, {"program": PROGRAM, "row": main_row((0, 2), (1, 1), (("file", "open"),)), "guards": GUARDS}, ["guards"]),
+]
+
+
+def told(found):
+    if isinstance(found, Walk):
+        return (found.end(), found.used(), found.steps(), found.places(), found.calls(), found.objects(), found.rows())
+    return list(found) if inspect.isgenerator(found) else found
+
+
+class ByName(unittest.TestCase):
+    def test_in_any_order(self):
+        for ask, given, behind in ASKED:
+            places = [given[name] for name in given if name not in behind]
+            expected = told(ask(*places, **{name: given[name] for name in behind}))
+            for names in itertools.permutations(given):
+                self.assertEqual(told(ask(**{name: given[name] for name in names})), expected)
+
+    def test_partly_by_place(self):
+        for ask, given, behind in ASKED:
+            names = list(given)
+            expected = told(ask(**given))
+            for many in range(len(names) - len(behind) + 1):
+                rest = {name: given[name] for name in names[many:][::-1]}
+                self.assertEqual(told(ask(*[given[name] for name in names[:many]], **rest)), expected)
+
+    def test_the_star(self):
+        for ask, given, behind in ASKED:
+            if behind:
+                with self.assertRaises(TypeError):
+                    told(ask(*given.values()))
+            kinds = [one.kind for one in inspect.signature(ask).parameters.values()]
+            self.assertEqual(kinds.count(inspect.Parameter.KEYWORD_ONLY), len(behind))
+            self.assertEqual(list(inspect.signature(ask).parameters), list(given))
+
+    def test_defaults(self):
+        self.assertEqual(told(walk(PROGRAM, [0, 1])), told(walk(PROGRAM, [0, 1], most=500, guards=())))
+        self.assertEqual(told(runs(PROGRAM, 2)), told(runs(PROGRAM, 2, most=500, guards=[])))
+        self.assertEqual(table(PROGRAM), table(PROGRAM, guards=()))
+        for ask, given, behind in ASKED:
+            for name in behind:
+                default = inspect.signature(ask).parameters[name].default
+                self.assertEqual(default, {"most": 500, "guards": ()}[name])
+
+    def test_methods_without_arguments(self):
+        found, one = table(PROGRAM), walk(PROGRAM, [])
+        for thing, names in ((found, ["rows", "entries", "wrongs", "is_safe"]), (PROGRAM, ["kinds", "functions", "points"]),
+                             (one, ["end", "used", "steps", "places", "calls", "objects", "rows"]),
+                             (make_file(), ["states", "methods", "moves"])):
+            for name in names:
+                self.assertEqual(list(inspect.signature(getattr(thing, name)).parameters), [])
+                self.assertIn(name, vars(type(thing)))
+
+    def test_errors_too(self):
+        for ask, given, behind in ASKED:
+            if "guards" in given:
+                wrong = dict(given, guards=[(7, 7)])
+                for names in itertools.permutations(wrong):
+                    with self.assertRaises(RightError) as caught:
+                        told(ask(**{name: wrong[name] for name in names}))
+                    self.assertEqual(caught.exception.place, (7, 7))
+
+    def test_where_they_are_defined(self):
+        for ask, _, _ in ASKED:
+            module = ask.__module__ if not inspect.ismethod(ask) else type(ask.__self__).__module__
+            self.assertIn(module, ["rightstate." + name for name in ("kinds", "programs", "walks", "tables", "papers", "shortest")])
+            if inspect.ismethod(ask):
+                self.assertIn(ask.__name__, vars(type(ask.__self__)))
+
+
+if __name__ == "__main__":
+    unittest.main()
