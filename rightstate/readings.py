@@ -46,18 +46,18 @@ def read_entry(flow, number, thing):
 
 
 def _can_pend(point, thing):
-    """Whether this is a pending with which one can stand at a point."""
+    """Whether this is a pending with which one can stand at a point; its value is looked at with the refs."""
     if thing == ():
         return True
-    if _is_tuple(thing, 1):
-        return thing[0] in ("leave", "again") and point.word == "exit" and point.around.leave is not None
+    if thing == ("leave",) or thing == ("again",):
+        return point.word == "exit" and point.around.leave is not None
     if not _is_tuple(thing, 2):
         return False
     if thing[0] == "take":
-        return point.word == "run" and is_integer(thing[1])
+        return point.word == "run"
     if point.word != "exit" and point.word != "over":
         return False
-    return (thing[0] == "return" and is_integer(thing[1])) or (thing[0] == "raise" and is_error(thing[1]))
+    return thing[0] == "return" or (thing[0] == "raise" and is_error(thing[1]))
 
 
 def _is_config(flow, point, entry, thing):
@@ -89,7 +89,7 @@ def read_row(flow, thing):
 
 
 def _is_exit(flow, number, entry, thing):
-    if not _is_tuple(thing, 3) or not _is_tuple(thing[1], len(entry[1])) or not isinstance(thing[2], tuple):
+    if not _is_tuple(thing, 3) or not _is_tuple(thing[1], len(entry[1])):
         return False
     how, states, value = thing
     if how != "return" and not is_error(how):

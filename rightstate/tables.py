@@ -44,7 +44,7 @@ class Table:
     def __contains__(self, x):
         """Whether there is this row."""
         # True is no 1 here, and no list a tuple; what cannot be hashed may be asked for, too.
-        return isinstance(x, tuple) and is_plain(x, ROW_DEPTH) and frozen(x) == x and x in self._known
+        return is_plain(x, ROW_DEPTH) and frozen(x) == x and x in self._known
 
     def __len__(self):
         return len(self._rows)

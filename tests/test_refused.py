@@ -24,6 +24,18 @@ def strange():
     return found + rows() + texts_that_are_no_names() + ["main", "twice", TABLE, walk(PROGRAM, []), table, Table, walk]
 
 
+def doubled(make, deep):
+    """Rows within one another, each of which has the next one twice: far too many to go through one by one."""
+    thing = make()
+    for _ in range(deep):
+        thing = make([thing, thing])
+    return thing
+
+
+def numbers():
+    return [0, 1, -1, 4, 10 ** 30 - 1]
+
+
 def wide(many):
     return [[1] * many, tuple([(0, 0)] * many), [[]] * many]
 
@@ -196,14 +208,15 @@ def bad_rows():
         found.append((function, entry, place, (bad, (thing,), ())))
     for bad in ((), (thing, thing), thing, (("file", "old"),), (("other", "new"),), None, ["file"], (thing, None)):
         found.append((function, entry, place, ((1, 1), bad, ())))
-    for bad in (("take", 1), ("leave",), ("again",), ("return", 1), ("raise", "E"), None, 0, "", ("",), ["raise"], [()], ((),)):
+    for bad in (("take", 1), ("leave",), ("again",), ("return", 1), ("raise", "E"), None, 0, "", ("",), ["raise"], [()], ((),),
+                ("stay",), ("keep", 1), ("keep", "E"), (1,), (1, 1)):
         found.append((function, entry, place, ((1, 1), (thing,), bad)))
     return found + [(function, entry, place, bad) for bad in strange()[::3]]
 
 
 class Rows(Refused):
     def test_in(self):
-        for thing in strange() + wide(1000) + bad_rows():
+        for thing in strange() + wide(1000) + bad_rows() + numbers():
             self.assertIs(thing in TABLE, False)
         self.assertIs(ROW in TABLE, True)
         self.assertIs(list(ROW) in TABLE, False)
@@ -216,7 +229,7 @@ class Rows(Refused):
         self.assertIs(ROW[:2] + ((True, 1), ROW[3]) in TABLE, False)
 
     def test_run_to(self):
-        for thing in strange() + wide(1000) + bad_rows():
+        for thing in strange() + wide(1000) + bad_rows() + numbers():
             self.assertIsNone(run_to(PROGRAM, thing))
         told = run_to(PROGRAM, ROW)
         self.assertIsNotNone(told)
@@ -226,13 +239,13 @@ class Rows(Refused):
         for thing in no_rows() + [None, "ab", {1: 2}]:
             self.assertEqual(paper_fault(PROGRAM, thing, None), ("rows", -1))
             self.assertEqual(paper_fault(PROGRAM, [ROW], thing), ("exits", -1))
-        for thing in strange() + wide(1000) + bad_rows():
+        for thing in strange() + wide(1000) + bad_rows() + numbers():
             self.assertEqual(paper_fault(PROGRAM, [thing], None), ("rows", 0))
             self.assertEqual(paper_fault(PROGRAM, (list(ROW), ROW, thing, None), ()), ("rows", 2))
 
     def test_paper_exits(self):
         function, entry, way = EXIT
-        bad = strange() + wide(1000) + [EXIT[:2], EXIT + ((),), ("main", entry, way), ("f", entry, way), (0, entry, way),
+        bad = strange() + wide(1000) + numbers() + [EXIT[:2], EXIT + ((),), ("main", entry, way), ("f", entry, way), (0, entry, way),
                                         (function, entry, way[:2]), (function, entry, way + ((),)),
                                         ("main", ((), ()), ("return", (), ("new", "file", "new"))),
                                         ("main", ((), ()), ("return", (), ("old", 1)))]
@@ -241,7 +254,7 @@ class Rows(Refused):
         bad += [(function, entry, ("return", states, ("none",))) for states in
                 ((), ("old",), ("new", "new"), "new", None, (None,), (["new"],), (("file", "new"),), {"new": 1})]
         bad += [(function, entry, ("return", ("new",), value)) for value in
-                (("old", 0), ("old", 2), ("old", -1), ("old", True), ("old",), ("old", 1, 1), ("none", 1), ("none", ()), (), None, 1,
+                (("old", 0), ("old", "a"), ("old", (1,)), ("take", "file", "new"), ("file", "new", "new"), ("old", 2), ("old", -1), ("old", True), ("old",), ("old", 1, 1), ("none", 1), ("none", ()), (), None, 1,
                  ("new",), ("new", "file"), ("new", "file", "old"), ("new", "other", "new"), ("new", "new", "file"), "none",
                  ("new", ("file", "new")), ("new", "file", "new", 1), ("take", 1), ("new", "file", ["new"]), (["none"],))]
         bad += [(function, entry, ("LOST", ("new",), value)) for value in (("old", 1), ("new", "file", "new"), ())]
@@ -278,8 +291,45 @@ class Rows(Refused):
                 ((0, 2, 1), ((0, 0, 1), (thing,), ("take", 1))), ((0, 2, 1), ((0, 0, 1), (thing,), ("raise", "e"))),
                 ((0, 2, 1), ((0, 0, 1), (thing,), ("raise",))), ((0, 2, 1), ((0, 0, 1), (thing,), ("return", 2))),
                 ((0, 2, 1), ((0, 0, 1), (thing,), ("return", None))), ((0, 3), ((0, 0), (), ("leave",))),
-                ((0, 3), ((0, 0), (), ("take", 0))), ((0, 3), ((0, 0), (), ("return", 1))), ((0, 3), ((0, 0, 0), (), ()))):
+                ((0, 3), ((0, 0), (), ("take", 0))), ((0, 3), ((0, 0), (), ("return", 1))), ((0, 3), ((0, 0, 0), (), ())),
+                ((0, 3), ((0, 0), (), ("return", "E"))), ((0, 3), ((0, 0), (), ("raise", 0))), ((0, 3), ((0, 0), (), ("keep", 0))),
+                ((0, 3), ((0, 0), (), ("keep", "E"))), ((0, 3), ((0, 0), (), ("return", ()))), ((0, 3), ((0, 0), (), ("return",))),
+                ((0, 1), ((0, 0), (), ("take", "a"))), ((0, 1), ((0, 0), (), ("take", -1))), ((0, 1), ((0, 0), (), ("take", ())))):
             self.assertEqual(paper_fault(PROGRAM, [("main", ((), ()), place, config)], []), ("rows", 0), (place, config))
+
+
+    def test_pendings_at_the_exit_of_a_with_in_a_loop(self):
+        program = program_of((("loop", (("try", (("with", "x", ()),), ()),)), ("with", "x", (("loop", ()),))))
+        thing = ("box", "shut")
+        for pending, right in (((), True), (("leave",), True), (["again"], True), (("return", 0), True), (("return", 1), True),
+                               (("raise", "E"), True), (("stay",), False), (("raise",), False), (("return",), False),
+                               (("leave", 0), False), (("again", "E"), False), (("take", 0), False), (("leaves",), False),
+                               (("return", 2), False), (("raise", "e"), False), (1, False), ("leave", False), ((0,), False)):
+            row = main_row((0, 0, 0, 0, 0, 0, 1), (0, 1), (thing,), pending)
+            self.assertEqual(paper_fault(program, [row], []), ("begin",) if right else ("rows", 0), pending)
+            row = main_row((0, 1, 1), (0, 1), (thing,), pending)
+            right = right and tuple(pending) not in (("leave",), ("again",))
+            self.assertEqual(paper_fault(program, [row], []), ("begin",) if right else ("rows", 0), pending)
+
+
+class Doubled(Refused):
+    def test_rows_in_rows(self):
+        for make in (list, tuple):
+            thing = doubled(make, 100)
+            self.assertFalse(thing in TABLE)
+            self.assertIsNone(run_to(PROGRAM, thing))
+            self.assertIsNone(run_to(PROGRAM, main_row((0, 0), thing)))
+            self.assertEqual(paper_fault(PROGRAM, [thing], []), ("rows", 0))
+            self.assertEqual(paper_fault(PROGRAM, [main_row((0, 0), (0, 0), thing)], []), ("rows", 0))
+            self.assertEqual(paper_fault(PROGRAM, [], [thing]), ("exits", 0))
+            self.refused(NoPlace, "place", thing, lambda: table(PROGRAM, guards=[thing]))
+            self.refused(BadChoices, "index", 0, lambda: walk(PROGRAM, thing))
+            self.refused(NoNumber, "value", thing, lambda: walk(PROGRAM, [], most=thing))
+            self.refused(NoFunction, "thing", thing, lambda: summary(PROGRAM, thing, ()))
+            self.refused(BadEntry, None, None, lambda: summary(PROGRAM, "twice", thing))
+            self.refused(BadEntry, None, None, lambda: summary(PROGRAM, "twice", ((1, 1), thing)))
+            self.refused(NoEntry, None, None, lambda: TABLE.exits("twice", thing))
+            self.refused(NoEntry, None, None, lambda: TABLE.exits(thing, ENTRY))
 
 
 class Order(Refused):

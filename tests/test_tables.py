@@ -440,6 +440,11 @@ class Asked(unittest.TestCase):
         self.assertEqual(one.rows(), other.rows())
         self.assertFalse(one == other)
 
+    def test_tables_that_differ_in_rows_alone(self):
+        one, other = [table(program_of((("none", "x"),) * many)) for many in (1, 2)]
+        self.assertEqual((one.wrongs(), one.exits("main", EMPTY)), (other.wrongs(), other.exits("main", EMPTY)))
+        self.assertFalse(one == other)
+
     def test_same_table_of_another_program(self):
         one = table(program_of((("maybe", (), ()),)))
         other = table(program_of((("loop", ()),)))
