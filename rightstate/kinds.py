@@ -52,13 +52,14 @@ def _read_moves(moves, start, ends):
         pairs = _pairs_of_texts(list(moves.values()))
     if len(pairs) != many:
         raise BadKind("moves")
-    states = sorted(set([start] + list(ends) + [state for state, _ in moves] + [state for _, state in pairs]))
+    behind = sorted({state for _, state in pairs})
+    states = sorted(set([start] + list(ends) + [state for state, _ in moves] + behind))
     methods = sorted({method for _, method in moves})
     if not _are_right(sorted({word for word, _ in pairs}), states, methods):
         raise BadKind("moves")
     if [row for row in moves.values() if len(set(row)) != len(row)]:
         raise BadKind("moves")
-    return states, methods, {key: tuple(sorted(moves[key])) for key in moves}
+    return states, methods, {key: tuple(sorted(row)) for key, row in moves.items()}
 
 
 def _check_parts(name, start, ends):
