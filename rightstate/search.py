@@ -2,13 +2,13 @@
 
 from rightstate.configs import begin_config, behind_run, config_behind, exit_of, handed
 from rightstate.errors import TooMany
-from rightstate.steps import results_of
+from rightstate.steps import results_of, rules_of
 
 MOST_ROWS = 4000
 
 
 class Search:
-    """All that comes behind the begin of one activation, found once and for all.
+    """All that comes behind the begins of the activations that are explored, each thing found once and for all.
 
     Everything has a number, in the order in which it was found:
 
@@ -20,7 +20,7 @@ class Search:
     - returns: for each row that runs an activation the dict from the numbers of its exits to the rows behind them.
     """
 
-    def __init__(self, rules, number, entry):
+    def __init__(self, rules):
         self._rules = rules
         self.activations = []
         self.begin_rows = []
@@ -36,11 +36,25 @@ class Search:
         self._olds = []
         self._callers = []
         self._exits = []
-        self._activation((number, entry))
-        done = 0
-        while done < len(self.found_rows):
-            self._explore(done)
-            done += 1
+        self._done = 0
+        self._bound = 0
+
+    def explore(self, number, entry):
+        """Finds all that comes if a function is run with an entry; the number of this activation.
+
+        Of what was not found ahead there may be as many rows as a table may have.
+        """
+        self._bound = len(self.found_rows) + MOST_ROWS
+        begun = self._activation((number, entry))
+        while self._done < len(self.found_rows):
+            self._explore(self._done)
+            self._done += 1
+        return begun
+
+    def results_at(self, point, config, olds):
+        """The results of the step of an activation that stands so."""
+        refs, objects, pending = config
+        return results_of(self._rules, point, refs, pending, objects, olds)
 
     def _activation(self, told):
         """The number of an activation; a new one begins."""
@@ -63,7 +77,7 @@ class Search:
         if row in self._row_numbers:
             return self._row_numbers[row]
         made = len(self.found_rows)
-        if made == MOST_ROWS:
+        if made == self._bound:
             raise TooMany(MOST_ROWS)
         self._row_numbers[row] = made
         self.found_rows.append(row)
@@ -72,8 +86,7 @@ class Search:
 
     def _explore(self, row):
         activation, point, config = self.found_rows[row]
-        refs, objects, pending = config
-        results = results_of(self._rules, point, refs, pending, objects, self._olds[activation])
+        results = self.results_at(point, config, self._olds[activation])
         for option, result in enumerate(results):
             choice = option if len(results) > 1 else -1
             what, target = self._reached(row, result)
@@ -143,3 +156,11 @@ class Search:
         flow = self._rules.flow
         activation = self._activation_numbers.get((flow.numbers.get(function), entry))
         return self._row_numbers.get((activation, flow.point_at.get(place), config))
+
+
+def table_search(program, guards):
+    """The search for all that can come in runs of a program with these guards."""
+    rules = rules_of(program, guards)
+    search = Search(rules)
+    search.explore(rules.flow.main, ((), ()))
+    return search

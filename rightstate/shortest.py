@@ -5,8 +5,7 @@ from heapq import heappop, heappush
 from rightstate.errors import TooLong
 from rightstate.forms import frozen, is_plain
 from rightstate.readings import ROW_DEPTH
-from rightstate.search import Search
-from rightstate.steps import rules_of
+from rightstate.search import table_search
 
 MOST_STEPS = 400
 ROW = 0
@@ -124,14 +123,9 @@ class Distances:
         return min(found) if found else None
 
 
-def _main_search(program, guards):
-    rules = rules_of(program, guards)
-    return Search(rules, rules.flow.main, ((), ()))
-
-
 def steps_to_wrong(program, *, guards=()):
     """(steps, place, why) of the shortest runs that go wrong, the first one of these; None if no run does."""
-    first = Distances(_main_search(program, guards)).first_wrong()
+    first = Distances(table_search(program, guards)).first_wrong()
     if first is None:
         return None
     steps, place, why, _, _ = first
@@ -140,7 +134,7 @@ def steps_to_wrong(program, *, guards=()):
 
 def wrong_run(program, *, guards=()):
     """The tuple of the choices of a run that goes wrong as steps_to_wrong tells; None if no run does."""
-    found = Distances(_main_search(program, guards))
+    found = Distances(table_search(program, guards))
     first = found.first_wrong()
     if first is None:
         return None
@@ -153,7 +147,7 @@ def wrong_run(program, *, guards=()):
 
 def run_to(program, row, *, guards=()):
     """The fewest steps behind which a run stands at this row, and the choices of it; None if no run does."""
-    search = _main_search(program, guards)
+    search = table_search(program, guards)
     number = _number_of(search, row)
     if number is None:
         return None

@@ -29,17 +29,19 @@ class Rules:
         self.guards = guards
 
 
+def point_of(flow, place):
+    """The point with this place; what is none is refused."""
+    if not is_row(place) or not all([is_integer(part) for part in place]) or tuple(place) not in flow.point_at:
+        raise NoPlace(place)
+    return flow.point_at[tuple(place)]
+
+
 def rules_of(program, guards):
     """The rules of a program with these guards; what is no row of its points is refused."""
     if not is_row(guards):
         raise NoPlace(guards)
     flow = program.laid_out()
-    found = {}
-    for place in guards:
-        if not is_row(place) or not all([is_integer(part) for part in place]) or tuple(place) not in flow.point_at:
-            raise NoPlace(place)
-        found[flow.point_at[tuple(place)]] = True
-    return Rules(flow, found)
+    return Rules(flow, {point_of(flow, place): True for place in guards})
 
 
 def value_of(pending):

@@ -76,4 +76,6 @@ def summary(program, function, entry, *, guards=()):
     told = read_entry(program.laid_out(), number, entry)
     if told is None:
         raise BadEntry()
-    return _table_of(Search(rules_of(program, guards), number, told))
+    search = Search(rules_of(program, guards))
+    search.explore(number, told)
+    return _table_of(search)

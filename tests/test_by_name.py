@@ -1,14 +1,17 @@
-"""Sections 2 and 4 to 9: arguments by their names, in any order, as by place."""
+"""Sections 2 and 4 to 12: arguments by their names, in any order, as by place."""
 
 import inspect
 import itertools
 import unittest
 
 from rightstate.errors import RightError
+from rightstate.guarding import guards_fault, least_guards, why_guarded
 from rightstate.kinds import Kind, after, allowed
 from rightstate.papers import paper_fault, paper_of
 from rightstate.programs import Program
+from rightstate.questions import alike_at, idle, needs, reached, states_at
 from rightstate.shortest import run_to, steps_to_wrong, wrong_run
+from rightstate.standins import common, pairing, pairing_fault, parted, parting_program, stand_ins
 from rightstate.tables import summary, table
 from rightstate.walks import Walk, runs, walk
 from samples import FILE_MOVES, MAIN, TWICE, make_file, make_program
@@ -17,6 +20,8 @@ from things import main_row
 PROGRAM = make_program()
 ENTRY = ((1, 1), (("file", "new"),))
 GUARDS = [(0, 2), (0, 3)]
+CALM = Kind("file", "new", ["new", "shut"], {key: row for key, row in FILE_MOVES.items() if key[0] != "new"}
+            | {("new", "open"): [("no", "open")]})
 # Each function with its arguments in the order of the document; the names behind the star come last.
 ASKED = [
     (Kind, {"name": "file", "start": "new", "ends": ["new"], "moves": FILE_MOVES}, []),
@@ -38,6 +43,20 @@ ASKED = [
     (steps_to_wrong, {"program": PROGRAM, "guards": GUARDS[:1]}, ["guards"]),
     (wrong_run, {"program": PROGRAM, "guards": GUARDS[:1]}, ["guards"]),
     (run_to, {"program": PROGRAM, "row": main_row((0, 2), (1, 1), (("file", "open"),)), "guards": GUARDS}, ["guards"]),
+    (reached, {"program": PROGRAM, "guards": GUARDS}, ["guards"]),
+    (states_at, {"program": PROGRAM, "place": (0, 2), "variable": "f", "guards": GUARDS}, ["guards"]),
+    (alike_at, {"program": PROGRAM, "place": (0, 1), "one": "f", "other": "g", "guards": GUARDS}, ["guards"]),
+    (idle, {"program": PROGRAM, "kind": "file", "guards": GUARDS}, ["guards"]),
+    (needs, {"program": PROGRAM, "function": "twice", "guards": GUARDS}, ["guards"]),
+    (least_guards, {"program": PROGRAM}, []),
+    (why_guarded, {"program": PROGRAM}, []),
+    (guards_fault, {"program": PROGRAM, "places": [(0, 2), (0, 1)]}, []),
+    (parted, {"one": CALM, "other": make_file()}, []),
+    (pairing, {"one": make_file(), "other": CALM}, []),
+    (pairing_fault, {"one": make_file(), "other": CALM, "pairs": [(("new",), ("new",))]}, []),
+    (parting_program, {"one": CALM, "other": make_file()}, []),
+    (common, {"one": make_file(), "other": CALM, "name": "both"}, []),
+    (stand_ins, {"kinds": [make_file(), CALM]}, []),
 ]
 
 
@@ -102,7 +121,8 @@ class ByName(unittest.TestCase):
     def test_where_they_are_defined(self):
         for ask, _, _ in ASKED:
             module = ask.__module__ if not inspect.ismethod(ask) else type(ask.__self__).__module__
-            self.assertIn(module, ["rightstate." + name for name in ("kinds", "programs", "walks", "tables", "papers", "shortest")])
+            self.assertIn(module, ["rightstate." + name for name in ("kinds", "programs", "walks", "tables", "papers", "shortest",
+                                                                    "questions", "guarding", "standins")])
             if inspect.ismethod(ask):
                 self.assertIn(ask.__name__, vars(type(ask.__self__)))
 

@@ -55,6 +55,35 @@ SECTION_9 = '''
 (('begin',), ('step', 0, ('main', ((), ()), (0, 1), ((1, 0), (('file', 'new'),), ()))))
 '''
 
+SECTION_10 = '''
+>>> from rightstate.questions import alike_at, idle, needs, reached, states_at
+>>> reached(program)
+[(0, 0), (0, 1), (0, 2), (0, 3), (1, 0), (1, 0, 0, 0), (1, 1), (1, 2)]
+>>> states_at(program, (0, 2), "f"), states_at(program, (0, 1), "g"), alike_at(program, (0, 2), "g", "f")
+([('file', 'new'), ('file', 'open')], [()], ['same'])
+>>> idle(program, "file"), len(needs(program, "twice")), needs(program, "twice")[0]
+([('last', 'close'), ('open', 'close'), ('open', 'read')], 6, ((1, 0), (('file', 'new'),)))
+'''
+
+SECTION_11 = '''
+>>> from rightstate.guarding import guards_fault, least_guards, why_guarded
+>>> least_guards(program), why_guarded(program)
+([(0, 2), (0, 3)], {(0, 2): (1,), (0, 3): (0, 1)})
+>>> guards_fault(program, [(0, 2)]), guards_fault(program, [(0, 3), (0, 1), (0, 2)]), guards_fault(program, [(0, 3), (0, 2)])
+(('unsafe', (0, 3)), ('spare', (0, 1)), None)
+'''
+
+SECTION_12 = '''
+>>> from rightstate.standins import common, pairing, parted, parting_program
+>>> calm = Kind("file", "new", ["new", "shut"], {("new", "open"): [("no", "open")], ("open", "read"): [("yes", "open"), ("no", "last")], ("open", "close"): [("no", "shut")], ("last", "close"): [("no", "shut")]})
+>>> parted(file, calm), parted(calm, file)
+(None, ((), ('word', 'open', 'LOST')))
+>>> pairing(file, calm)
+[(('last',), ('last',)), (('new',), ('new',)), (('open',), ('open',)), (('shut',), ('shut',))]
+>>> common(file, calm, "both")["a", "open"], common(file, calm, "both").ends
+((('LOST', 'b'), ('no', 'c')), ('a', 'b', 'e', 'g'))
+'''
+
 README = os.path.join(os.path.dirname(os.path.dirname(os.path.abspath(__file__))), "README.md")
 
 
@@ -67,7 +96,7 @@ class Examples(unittest.TestCase):
         self.assertEqual(result.failed, 0, "".join(said))
 
     def test_document(self):
-        self.run_examples("".join([SECTION_4, SECTION_5, SECTION_6, SECTION_7, SECTION_9]), "the document")
+        self.run_examples("".join([SECTION_4, SECTION_5, SECTION_6, SECTION_7, SECTION_9, SECTION_10, SECTION_11, SECTION_12]), "the document")
 
     def test_readme(self):
         with open(README, encoding="utf-8") as file:

@@ -113,6 +113,8 @@ class Language(unittest.TestCase):
                 self.assertFalse(one in PYTHONS or one in BARRED_NAMES, one)
                 self.assertTrue(not one.startswith("__") or one in SPECIAL, one)
             for node in nodes(name, ast.Attribute):
+                if ast.unparse(node) == "super().__init__":
+                    continue
                 self.assertFalse(node.attr.startswith("__") or node.attr in BARRED_NAMES, node.attr)
 
     def test_builtins(self):

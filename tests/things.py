@@ -50,3 +50,19 @@ def call(x, method):
 
 
 WAIT = ("wait",)
+
+WIDE_STATES = ["s" + a + b for a in "ab" for b in "abcdefghijklmnopqrst"]
+# Two calls lead from the start to all of its forty states.
+WIDE = Kind("wide", WIDE_STATES[0], WIDE_STATES, {
+    (one, "m"): [("yes", WIDE_STATES[(8 * at + step) % 40]) for step in range(8)] for at, one in enumerate(WIDE_STATES)})
+
+
+def wide_body(many):
+    """A body that is safe and has so many rows: from 3970 on."""
+    front = [("none", "y")] * (many - 3970)
+    return front + [("new", "x", "wide"), ("call", "x", "m"), ("call", "x", "m")] + [("none", "y")] * 98
+
+
+def wide_program(many, ahead=()):
+    """A program with so many rows; those of what is put ahead of it are not counted."""
+    return program_of(list(ahead) + wide_body(many), kinds=[WIDE])
