@@ -1,9 +1,9 @@
-"""The points of a program, and where each of them leads.
+"""The points of a program or a built class, and where each of them leads.
 
-A flow is made of the parts of a program that are right already; it never changes.
+A flow is made of parts that are right already. Its functions are laid out when they are asked for.
 """
 
-from rightstate.forms import STATEMENTS, blocks_of, statements_of, variables_in
+from rightstate.forms import PARTS, blocks_of
 
 
 class Around:
@@ -26,70 +26,89 @@ class Around:
 class Point:
     """A point of a function.
 
-    word is the first word of its statement, "exit" or "over" (at the end of a body). parts are the parts of the
-    statement but its blocks, with indexes for variables and numbers for functions. ways are the points to which
+    word is the first word of its statement, "exit", or what the flow calls the end of a body. parts are the parts of
+    the statement but its blocks, with indexes for variables and numbers for functions. ways are the points to which
     it goes on: the first one by "yes" or option 0, the second one by "no" or option 1.
     """
 
-    def __init__(self, place, word, around, holds):
+    def __init__(self, place, word, parts, around, holds):
         self.place = place
         self.word = word
+        self.parts = parts
         self.around = around
         self.holds = holds
-        self.parts = ()
         self.ways = ()
 
 
 class Flow:
-    """The functions of a program, laid out in points."""
+    """The functions of a program, or the methods of a built class, laid out in points.
 
-    def __init__(self, kinds, functions):
+    functions are tuples (name, params, body), variable_rows the lists of their variables. main is the number of the
+    function with which runs begin, over the word of the points at the ends of bodies.
+    """
+
+    def __init__(self, kinds, functions, variable_rows, main, over):
         self.kind_by_name = {kind.name: kind for kind in kinds}
         self.states_by_kind = {kind.name: {state: True for state in kind.states()} for kind in kinds}
-        self.function_names = [function[0] for function in functions]
-        self.numbers = {function[0]: number for number, function in enumerate(functions)}
-        self.main = self.numbers["main"]
-        self.variable_rows = [_variables_of(function) for function in functions]
-        self.param_counts = [len(function[1]) for function in functions]
-        self.begins = []
-        self.point_at = {}
-        for number, function in enumerate(functions):
-            layout = Layout(number, self.variable_rows[number], self.numbers)
-            self.begins.append(layout.begin_of(function[2]))
-            for point in layout.laid:
-                self.point_at[point.place] = point
+        self.function_names = [name for name, _, _ in functions]
+        self.numbers = {name: number for number, (name, _, _) in enumerate(functions)}
+        self.main = main
+        self.over = over
+        self.variable_rows = variable_rows
+        self.param_counts = [len(params) for _, params, _ in functions]
+        self._bodies = [body for _, _, body in functions]
+        self._layouts = [None for _ in functions]
 
     def size_of(self, number):
         """How many variables a function has."""
         return len(self.variable_rows[number])
 
+    def _layout_of(self, number):
+        if self._layouts[number] is None:
+            layout = Layout(number, self.variable_rows[number], self.numbers)
+            layout.lay_out(self._bodies[number], self.over)
+            self._layouts[number] = layout
+        return self._layouts[number]
 
-def _variables_of(function):
-    _, params, body = function
-    named = {variable: True for variable in params}
-    for _, statement, _ in statements_of(body, (), ()):
-        for variable in variables_in(statement):
-            named[variable] = True
-    return list(named)
+    def begin_of(self, number):
+        """The first point of the body of a function."""
+        return self._layout_of(number).begin
+
+    def point_at(self, place):
+        """The point with this place, a tuple of integers; None if there is none."""
+        if len(place) == 0 or not 0 <= place[0] < len(self._layouts):
+            return None
+        return self._layout_of(place[0]).laid.get(place)
+
+    def places(self):
+        """The sorted list of the places of all points."""
+        found = []
+        for number in range(len(self._layouts)):
+            found.extend(sorted(list(self._layout_of(number).laid)))
+        return found
 
 
 class Layout:
-    """Lays out the points of one function."""
+    """The points of one function: begin is the first one, laid the dict from their places."""
 
     def __init__(self, number, variables, numbers):
         self._number = number
         self._index = {variable: index for index, variable in enumerate(variables)}
         self._numbers = numbers
-        self.laid = []
+        # The parts of statements that were laid out, as many statements look alike.
+        self._parts = {}
+        self.laid = {}
+        self.begin = None
 
-    def begin_of(self, body):
-        """The first point of a body, all of which is laid out."""
-        over = self._point((self._number, len(body)), "over", None, 0)
-        return self._block(body, (self._number,), over, Around(over, (), None, None, 0))
+    def lay_out(self, body, over):
+        """Lays out all points of a body."""
+        last = self._point((self._number, len(body)), over, (), None, 0)
+        last.around = Around(last, (), None, None, 0)
+        self.begin = self._block(body, (self._number,), last, last.around)
 
-    def _point(self, place, word, around, holds):
-        point = Point(place, word, around, holds)
-        self.laid.append(point)
+    def _point(self, place, word, parts, around, holds):
+        point = Point(place, word, parts, around, holds)
+        self.laid[place] = point
         return point
 
     def _block(self, block, ahead, behind, around):
@@ -101,20 +120,20 @@ class Layout:
 
     def _statement(self, statement, place, behind, around):
         """The point to which one comes in coming to a statement."""
-        if statement[0] == "try":
+        word = statement[0]
+        if word == "try":
             return self._tried(statement, place, behind, around)
-        point = self._point(place, statement[0], around, around.holds)
-        point.parts = self._parts_of(statement)
-        if statement[0] == "loop":
+        point = self._point(place, word, self._parts_of(statement), around, around.holds)
+        if word == "loop":
             inside = Around(around.out, around.catches, (behind, ()), (point, ()), around.holds)
             point.ways = (behind, self._block(statement[1], place + (0,), point, inside))
-        elif statement[0] == "with":
+        elif word == "with":
             first = self._held(statement[2], place, behind, around)
             point.ways = (first, first)
         else:
-            found = [self._block(block, place + (number,), behind, around)
-                     for number, block in enumerate(blocks_of(statement))]
-            point.ways = tuple(found) if found else (behind, behind)
+            blocks = blocks_of(statement)
+            found = [self._block(block, place + (number,), behind, around) for number, block in enumerate(blocks)]
+            point.ways = tuple(found) if blocks else (behind, behind)
         return point
 
     def _tried(self, statement, place, behind, around):
@@ -126,25 +145,32 @@ class Layout:
 
     def _held(self, block, place, behind, around):
         """The first point of the block of a with, the exit of which is laid out, too."""
-        leaving = self._point(place + (1,), "exit", around, around.holds + 1)
         # The object that is held last is the last one of all that the activation holds here.
-        leaving.parts = (-1, "exit")
+        leaving = self._point(place + (1,), "exit", (-1, "exit"), around, around.holds + 1)
         leaving.ways = (behind, behind)
         leave = None if around.leave is None else (leaving, ("leave",))
         again = None if around.again is None else (leaving, ("again",))
         return self._block(block, place + (0,), leaving, Around(leaving, (), leave, again, around.holds + 1))
 
     def _parts_of(self, statement):
-        if statement[0] == "with":
-            return (self._index[statement[1]], "enter")
+        form = statement[:len(PARTS[statement[0]]) + 1]
+        if statement[0] == "run":
+            form = statement
+        if form not in self._parts:
+            self._parts[form] = self._found_parts(form)
+        return self._parts[form]
+
+    def _found_parts(self, form):
+        if form[0] == "with":
+            return (self._index[form[1]], "enter")
         found = []
-        for part, sort in zip(statement[1:], STATEMENTS[statement[0]]):
+        for part, sort in zip(form[1:], PARTS[form[0]]):
             if sort == "variable" or (sort == "result" and part is not None):
                 found.append(self._index[part])
-            elif sort == "args":
-                found.append(tuple([self._index[variable] for variable in part]))
             elif sort == "function":
                 found.append(self._numbers[part])
-            elif sort != "block":
+            else:
                 found.append(part)
+        if form[0] == "run":
+            found.append(tuple([self._index[variable] for variable in form[3]]))
         return tuple(found)

@@ -8,26 +8,30 @@ MOST_SIGNS = 8
 # No place, and no part of a row or an exit, has more elements.
 MOST_PARTS = 20
 
-# The parts of each statement behind its first word. A "result" is a variable or None.
-STATEMENTS = {
+# The parts of each statement behind its first word and ahead of its blocks. A "result" is a variable or None, an
+# "answer" is yes or no. (What stands behind the function of a run is a row of variables, whose number it tells.)
+PARTS = {
     "new": ("variable", "kind"),
     "copy": ("variable", "variable"),
     "none": ("variable",),
     "call": ("variable", "method"),
-    "test": ("variable", "method", "block", "block"),
-    "same": ("variable", "variable", "block", "block"),
-    "has": ("variable", "block", "block"),
-    "maybe": ("block", "block"),
-    "loop": ("block",),
+    "test": ("variable", "method"),
+    "same": ("variable", "variable"),
+    "has": ("variable",),
+    "maybe": (),
+    "loop": (),
     "leave": (),
     "again": (),
-    "try": ("block", "handlers"),
-    "with": ("variable", "block"),
-    "run": ("result", "function", "args"),
+    "try": (),
+    "with": ("variable",),
+    "run": ("result", "function"),
     "return": ("result",),
     "raise": ("error",),
     "wait": (),
+    "say": ("answer",),
 }
+# How many blocks the statements with blocks have; those of the handlers of a try are not counted.
+BLOCKS = {"test": 2, "same": 2, "has": 2, "maybe": 2, "loop": 1, "try": 1, "with": 1}
 
 
 def is_row(thing):
@@ -68,6 +72,11 @@ def is_number(thing, least, most):
     return is_integer(thing) and least <= thing <= most
 
 
+def are_integers(thing):
+    """Whether this is a row of integers."""
+    return is_row(thing) and all([is_integer(one) for one in thing])
+
+
 def is_plain(thing, deep):
     """Whether this is a text, an integer, or a row of such, at most so deep and nowhere longer than what is told."""
     if is_row(thing):
@@ -92,64 +101,24 @@ def frozen(thing):
     return thing
 
 
-def _are_handlers(thing):
+def are_handlers(thing):
+    """Whether this is a row of pairs of unlike errors and a row."""
     return is_row(thing) and all([is_pair(one) and are_unlike_errors(one[0]) and is_row(one[1]) for one in thing])
 
 
-def _is_part(thing, sort):
-    if sort == "block":
-        return is_row(thing)
-    if sort == "handlers":
-        return _are_handlers(thing)
-    if sort == "args":
-        return is_row(thing) and all([is_name(one) for one in thing])
+def is_part(thing, sort):
+    """Whether this is a part of this sort of a statement."""
     if sort == "error":
         return is_error(thing)
-    if sort == "result":
-        return thing is None or is_name(thing)
-    return is_name(thing)
-
-
-def is_statement(thing):
-    """Whether this has one of the forms of statements; its blocks need only be rows."""
-    if not is_row(thing) or len(thing) == 0 or not isinstance(thing[0], str) or thing[0] not in STATEMENTS:
-        return False
-    sorts = STATEMENTS[thing[0]]
-    return len(thing) == len(sorts) + 1 and all([_is_part(part, sort) for part, sort in zip(thing[1:], sorts)])
+    if sort == "answer":
+        return isinstance(thing, str) and thing in ("yes", "no")
+    return is_name(thing) or (sort == "result" and thing is None)
 
 
 def blocks_of(statement):
-    """The list of the blocks of a statement, as they stand in it."""
-    found = []
-    for part, sort in zip(statement[1:], STATEMENTS[statement[0]]):
-        if sort == "block":
-            found.append(part)
-        elif sort == "handlers":
-            found.extend([block for _, block in part])
-    return found
-
-
-def variables_in(statement):
-    """The list of the variables that a statement names, from left to right, without those in its blocks."""
-    found = []
-    for part, sort in zip(statement[1:], STATEMENTS[statement[0]]):
-        if sort == "variable" or (sort == "result" and part is not None):
-            found.append(part)
-        elif sort == "args":
-            found.extend(list(part))
-    return found
-
-
-def statements_of(block, ahead, around):
-    """Tells (place, statement, around) for all statements of a block and of the blocks in it, in reading order.
-
-    ahead is the place of the block; around is the tuple of the first words of the statements in whose blocks
-    it stands, outer ones first. Each statement is told ahead of its blocks being read, so that whoever stops
-    at the first wrong statement may pass a block with wrong ones in it.
-    """
-    for at, statement in enumerate(block):
-        place = ahead + (at,)
-        yield (place, statement, around)
-        words = around + (statement[0],)
-        for number, inside in enumerate(blocks_of(statement)):
-            yield from statements_of(inside, place + (number,), words)
+    """The tuple of the blocks of a statement that is right, as they stand in it."""
+    if statement[0] == "try":
+        return (statement[1],) + tuple([block for _, block in statement[2]])
+    if statement[0] in BLOCKS:
+        return statement[-BLOCKS[statement[0]]:]
+    return ()

@@ -33,13 +33,13 @@ class Paper:
 
     def _begin_row(self, number, entry):
         flow = self._rules.flow
-        return (flow.function_names[number], entry, flow.begins[number].place, begin_config(flow, number, entry))
+        return (flow.function_names[number], entry, flow.begin_of(number).place, begin_config(flow, number, entry))
 
     def _fault_at(self, index):
         function, entry, place, config = self._rows[index]
         refs, objects, pending = config
         olds = tuple(range(1, len(entry[1]) + 1))
-        point = self._rules.flow.point_at[place]
+        point = self._rules.flow.point_at(place)
         for result in results_of(self._rules, point, refs, pending, objects, olds):
             what, where, values, _, _, _ = result
             if what == "wrong":
@@ -63,7 +63,7 @@ class Paper:
             return []
         handed_entry, handed_olds = handed(values, config[1])
         found = [self._begin_row(where, handed_entry)]
-        point = self._rules.flow.point_at[place]
+        point = self._rules.flow.point_at(place)
         for way in self._ways.get((self._rules.flow.function_names[where], handed_entry), []):
             behind, config_then = behind_run(point, config, handed_olds, way)
             found.append((function, entry, behind.place, config_then))

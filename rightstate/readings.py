@@ -1,6 +1,6 @@
 """What is passed as an entry, a row or an exit of a program: read in tuples, or None if it is none."""
 
-from rightstate.forms import frozen, is_error, is_integer, is_plain
+from rightstate.forms import are_integers, frozen, is_error, is_integer, is_plain
 from rightstate.steps import value_of
 
 # How deep rows lie within one another in what is read.
@@ -79,13 +79,14 @@ def read_row(flow, thing):
     if not is_plain(thing, ROW_DEPTH):
         return None
     told = frozen(thing)
-    if not _is_tuple(told, 4) or told[0] not in flow.numbers or told[2] not in flow.point_at:
+    if not _is_tuple(told, 4) or told[0] not in flow.numbers or not are_integers(told[2]):
         return None
     function, entry, place, config = told
     number = flow.numbers[function]
-    if place[0] != number or not _is_entry(flow, number, entry):
+    point = flow.point_at(place)
+    if point is None or place[0] != number or not _is_entry(flow, number, entry):
         return None
-    return told if _is_config(flow, flow.point_at[place], entry, config) else None
+    return told if _is_config(flow, point, entry, config) else None
 
 
 def _is_exit(flow, number, entry, thing):

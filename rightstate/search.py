@@ -2,6 +2,7 @@
 
 from rightstate.configs import begin_config, behind_run, config_behind, exit_of, handed
 from rightstate.errors import TooMany
+from rightstate.forms import are_integers
 from rightstate.steps import results_of, rules_of
 
 MOST_ROWS = 4000
@@ -68,7 +69,7 @@ class Search:
         self._exits.append([])
         number, entry = told
         flow = self._rules.flow
-        self.begin_rows.append(self._row(made, flow.begins[number], begin_config(flow, number, entry)))
+        self.begin_rows.append(self._row(made, flow.begin_of(number), begin_config(flow, number, entry)))
         return made
 
     def _row(self, activation, point, config):
@@ -154,8 +155,9 @@ class Search:
         """The number of the row that is told so, in tuples; None if it was not found."""
         function, entry, place, config = told
         flow = self._rules.flow
+        point = flow.point_at(place) if are_integers(place) else None
         activation = self._activation_numbers.get((flow.numbers.get(function), entry))
-        return self._row_numbers.get((activation, flow.point_at.get(place), config))
+        return self._row_numbers.get((activation, point, config))
 
 
 def table_search(program, guards):

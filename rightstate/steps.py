@@ -16,7 +16,7 @@ change is (number, (kind, state)) of an object that is made or called, or None; 
 """
 
 from rightstate.errors import NoPlace
-from rightstate.forms import is_integer, is_row
+from rightstate.forms import are_integers, is_row
 
 GUARD_ERROR = "GUARD"
 
@@ -31,9 +31,10 @@ class Rules:
 
 def point_of(flow, place):
     """The point with this place; what is none is refused."""
-    if not is_row(place) or not all([is_integer(part) for part in place]) or tuple(place) not in flow.point_at:
+    point = flow.point_at(tuple(place)) if are_integers(place) else None
+    if point is None:
         raise NoPlace(place)
-    return flow.point_at[tuple(place)]
+    return point
 
 
 def rules_of(program, guards):

@@ -106,7 +106,7 @@ class Machine:
         entry, olds = handed(values, self.things)
         flow = self._rules.flow
         refs = values + (0,) * (flow.size_of(function) - len(values))
-        self._stack.append(Activation(function, entry, olds, flow.begins[function], refs, ()))
+        self._stack.append(Activation(function, entry, olds, flow.begin_of(function), refs, ()))
 
     def _finish(self, how, value):
         """The last activation is over; the one that ran it goes on, if there is one."""

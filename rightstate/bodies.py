@@ -1,0 +1,195 @@
+"""Bodies of functions and methods as they are passed: all statements read in reading order, and kept in tuples.
+
+A body has many statements, most of which look like others of it, and many programs are refused. So all is done in one
+going through: a statement like the one ahead of it is known by being equal to it, each form is looked at but once for
+all bodies, and a place is written out only if it is wrong.
+"""
+
+from rightstate.forms import PARTS, are_handlers, is_part
+
+MOST_VARIABLES = 5
+MOST_STATEMENTS = 200
+MOST_BLOCKS = 6
+MOST_WITHS = 2
+
+# For the statements with blocks how many parts come ahead of these, and how many parts there are.
+SHAPES = {
+    "test": (3, 5),
+    "same": (3, 5),
+    "has": (2, 4),
+    "maybe": (1, 3),
+    "loop": (1, 2),
+    "try": (1, 3),
+    "with": (2, 3),
+}
+
+class Reader:
+    """Reads bodies, one after the other.
+
+    words are the first words that statements may have; kinds are the names of the kinds; counts is the dict from
+    the functions that may be run to how many parameters they have.
+
+    Places are pairs of what is ahead and the last number, until they are told. Around is the tuple of how many
+    blocks, loops and withs are around a statement.
+    """
+
+    def __init__(self, words, kinds, counts):
+        self._words = words
+        self._kinds = kinds
+        self._counts = counts
+        # From each form that was looked at to the variables in it; None if it is wrong.
+        self._forms = {}
+        # Of the body that is read: its variables, the forms met in it, how many statements, and the last one of these
+        # without blocks if it may stand at the next place, too.
+        self._named = {}
+        self._met = {}
+        self._many = 0
+        self._last = None
+
+    def refuse(self, place):
+        """Raises the error that tells this place."""
+        raise NotImplementedError("each sort of bodies has an error of its own")
+
+    def read(self, number, variables, body):
+        """A pair: the list of all variables of a body, of which some are named ahead, and the body in tuples."""
+        self._named = {variable: True for variable in variables}
+        self._met = {}
+        self._many = 0
+        self._last = None
+        told = self._block(body, number, (0, 0, 0))
+        return list(self._named), told
+
+    def _refuse(self, place):
+        found = []
+        while isinstance(place, tuple):
+            place, at = place
+            found.append(at)
+        found.append(place)
+        found.reverse()
+        self.refuse(tuple(found))
+
+    def _block(self, rows, ahead, around):
+        """A block in tuples; ahead is its place."""
+        found = []
+        if around[0] > MOST_BLOCKS and len(rows) > 0:
+            self._refuse((ahead, 0))
+        last = self._last
+        many = self._many
+        for at, statement in enumerate(rows):
+            many += 1
+            if many > MOST_STATEMENTS:
+                self._refuse((ahead, at))
+            if statement == last and last is not None:
+                found.append(last)
+                continue
+            if not isinstance(statement, tuple) or len(statement) == 0:
+                statement = self._as_tuple(statement, (ahead, at))
+            if isinstance(statement[0], str) and statement[0] in SHAPES:
+                self._many = many
+                found.append(self._with_blocks(statement, (ahead, at), around))
+                many = self._many
+                last = self._last
+            else:
+                last = self._simple(statement, (ahead, at), around)
+                self._last = last
+                found.append(last)
+        self._many = many
+        return tuple(found)
+
+    def _as_tuple(self, statement, place):
+        if not isinstance(statement, list) or len(statement) == 0:
+            self._refuse(place)
+        return tuple(statement)
+
+    def _simple(self, statement, place, around):
+        """A statement without blocks in tuples."""
+        if statement[0] == "run":
+            return self._run(statement, place)
+        self._meet(statement, place)
+        if around[1] == 0 and statement[0] in ("leave", "again"):
+            self._refuse(place)
+        return statement
+
+    def _run(self, statement, place):
+        if len(statement) != 4 or not isinstance(statement[3], (list, tuple)):
+            self._refuse(place)
+        args = tuple(statement[3])
+        self._meet(statement[:3] + args, place)
+        return statement[:3] + (args,)
+
+    def _with_blocks(self, statement, place, around):
+        """A statement with blocks in tuples, all that stands in them, too."""
+        word = statement[0]
+        if word == "try":
+            return self._tried(statement, place, around)
+        ahead, whole = SHAPES[word]
+        if len(statement) != whole or not isinstance(statement[ahead], (list, tuple)):
+            self._refuse(place)
+        if not isinstance(statement[-1], (list, tuple)):
+            self._refuse(place)
+        head = statement[:ahead]
+        if ahead > 1:
+            self._meet(head, place)
+        blocks, loops, withs = around
+        if word == "loop":
+            block = self._block(statement[1], (place, 0), (blocks + 1, loops + 1, withs))
+            # What may stand in a loop need not be right behind it.
+            self._last = None
+            return (word, block)
+        if word == "with":
+            if withs == MOST_WITHS:
+                self._refuse(place)
+            return head + (self._block(statement[2], (place, 0), (blocks + 1, loops, withs + 1)),)
+        inside = (blocks + 1, loops, withs)
+        first, second = statement[-2:]
+        # Many blocks are empty; they are not gone into.
+        first = self._block(first, (place, 0), inside) if len(first) > 0 else ()
+        return head + (first, self._block(second, (place, 1), inside) if len(second) > 0 else ())
+
+    def _tried(self, statement, place, around):
+        if len(statement) != 3 or not isinstance(statement[1], (list, tuple)):
+            self._refuse(place)
+        if not isinstance(statement[2], (list, tuple)) or (len(statement[2]) > 0 and not are_handlers(statement[2])):
+            self._refuse(place)
+        blocks, loops, withs = around
+        inside = (blocks + 1, loops, withs)
+        first = self._block(statement[1], (place, 0), inside)
+        handlers = []
+        for number, (errors, block) in enumerate(statement[2]):
+            handlers.append((tuple(errors), self._block(block, (place, number + 1), inside)))
+        return ("try", first, tuple(handlers))
+
+    def _meet(self, form, place):
+        """Looks at the parts of a statement but its blocks, and names the variables among them."""
+        for part in form:
+            # Only what can surely be hashed is looked up.
+            if not isinstance(part, str) and part is not None:
+                self._refuse(place)
+        if form in self._met:
+            return
+        self._met[form] = True
+        if form not in self._forms:
+            self._forms[form] = self._variables_in(form)
+        if self._forms[form] is None:
+            self._refuse(place)
+        for variable in self._forms[form]:
+            self._named[variable] = True
+        if len(self._named) > MOST_VARIABLES:
+            self._refuse(place)
+
+    def _variables_in(self, form):
+        """The list of the variables among the parts of a statement; None if it is wrong."""
+        word = form[0]
+        if word not in self._words:
+            return None
+        sorts = PARTS[word]
+        if word == "run":
+            sorts = sorts + ("variable",) * (len(form) - 3)
+            if self._counts.get(form[2]) != len(form) - 3:
+                return None
+        if len(form) != len(sorts) + 1 or not all([is_part(part, sort) for part, sort in zip(form[1:], sorts)]):
+            return None
+        if word == "new" and form[2] not in self._kinds:
+            return None
+        return [part for part, sort in zip(form[1:], sorts)
+                if sort == "variable" or (sort == "result" and part is not None)]
