@@ -3,6 +3,8 @@
 from rightstate.errors import BadHistory, BadKind
 from rightstate.forms import are_unlike_names, is_name, is_pair, is_row, is_word
 
+# Of one program.
+MOST_KINDS = 4
 MOST_STATES = 60
 MOST_METHODS = 8
 MOST_OUTCOMES = 8
@@ -128,6 +130,13 @@ class Kind:
     def __eq__(self, other):
         return (isinstance(other, Kind) and self._name == other._name and self._start == other._start
                 and self._ends == other._ends and self._moves == other._moves)
+
+
+def are_kinds(thing):
+    """Whether this is a row of kinds with unlike names, as a program has them."""
+    if not is_row(thing) or not 1 <= len(thing) <= MOST_KINDS:
+        return False
+    return all([isinstance(one, Kind) for one in thing]) and len({kind.name for kind in thing}) == len(thing)
 
 
 def _check_history(history):

@@ -4,20 +4,13 @@ from rightstate.bodies import Reader
 from rightstate.errors import BadProgram, NoFunction, NoKind
 from rightstate.flows import Flow
 from rightstate.forms import are_unlike_names, is_name, is_row
-from rightstate.kinds import Kind
+from rightstate.kinds import Kind, are_kinds
 
-MOST_KINDS = 4
 MOST_FUNCTIONS = 6
 MOST_PARAMS = 3
 # The first words of all statements that may stand in functions.
 WORDS = ("new", "copy", "none", "call", "test", "same", "has", "maybe", "loop", "leave", "again", "try", "with", "run",
          "return", "raise", "wait")
-
-
-def _are_kinds(thing):
-    if not is_row(thing) or not 1 <= len(thing) <= MOST_KINDS:
-        return False
-    return all([isinstance(one, Kind) for one in thing]) and len({kind.name for kind in thing}) == len(thing)
 
 
 def _is_function(thing):
@@ -47,7 +40,7 @@ class ProgramReader(Reader):
 
 def _read_program(kinds, functions):
     """A pair: the functions in tuples, and the lists of their variables."""
-    if not _are_kinds(kinds) or not is_row(functions) or not 1 <= len(functions) <= MOST_FUNCTIONS:
+    if not are_kinds(kinds) or not is_row(functions) or not 1 <= len(functions) <= MOST_FUNCTIONS:
         raise BadProgram(())
     counts = _counts_of(functions)
     if counts.get("main") != 0:

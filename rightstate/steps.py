@@ -9,6 +9,7 @@ A step has a result for each of its options: a tuple (what, where, refs, pending
 - "go": the activation is at the point `where` then, with these refs and this pending.
 - "run": the function number `where` is run, with refs for its parameters.
 - "over": the activation is over; where is "return" or the error, and refs has the value that is returned alone.
+  Of a method of a built class, where is what it answers, and refs has what its fields hold.
 - "wrong": the step goes wrong, and where is why.
 - "waits": the run goes no further.
 
@@ -193,7 +194,7 @@ def _choose(rules, point, refs, pending, objects, olds):
 
 
 def _leave(rules, point, refs, pending, objects, olds):
-    """A statement that leaves its block: leave, again or raise."""
+    """A statement that leaves its block: leave, again, raise or say."""
     where, behind = _where_to(point.around, (point.word,) + point.parts)
     return [_goes(where, refs, behind)]
 
@@ -215,6 +216,13 @@ def _run(rules, point, refs, pending, objects, olds):
 
 def _wait(rules, point, refs, pending, objects, olds):
     return [("waits", None, (), (), None, None)]
+
+
+def _done(rules, point, refs, pending, objects, olds):
+    """The end of a method of a built class: its fields stay, which are its first variables."""
+    how = pending[1] if pending else "no"
+    kept = refs[:rules.flow.param_counts[point.place[0]]]
+    return [_with_drop(rules, point, refs, ("over", how, kept, (), None, None), objects, olds)]
 
 
 def _over(rules, point, refs, pending, objects, olds):
@@ -245,6 +253,8 @@ ACTIONS = {
     "raise": _leave,
     "wait": _wait,
     "over": _over,
+    "say": _leave,
+    "done": _done,
 }
 
 

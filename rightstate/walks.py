@@ -1,11 +1,9 @@
 """Walks: single runs of a program, by choices that are told."""
 
+from rightstate.choices import check_choices, check_most, check_number
 from rightstate.configs import handed, numbered
-from rightstate.errors import BadChoices, NoNumber
-from rightstate.forms import is_integer, is_number, is_row
 from rightstate.steps import landing, results_of, rules_of
 
-MOST_STEPS = 2000
 MOST_CHOICES = 12
 
 
@@ -184,23 +182,10 @@ class Walk:
         return list(self._rows)
 
 
-def _check_choices(choices):
-    if not is_row(choices):
-        raise BadChoices(-1)
-    for index, choice in enumerate(choices):
-        if not is_integer(choice) or choice < 0:
-            raise BadChoices(index)
-
-
-def _check_number(value, least, most):
-    if not is_number(value, least, most):
-        raise NoNumber(value)
-
-
 def walk(program, choices, *, most=500, guards=()):
     """The walk of the run that these choices tell."""
-    _check_choices(choices)
-    _check_number(most, 1, MOST_STEPS)
+    check_choices(choices)
+    check_most(most)
     return Walk(Machine(rules_of(program, guards)), choices, most)
 
 
@@ -216,8 +201,8 @@ def _options(machine, most):
 
 def runs(program, many, *, most=500, guards=()):
     """Tells (choices, end) of all runs that are over, spent, or open behind so many choices, in their order."""
-    _check_number(many, 0, MOST_CHOICES)
-    _check_number(most, 1, MOST_STEPS)
+    check_number(many, 0, MOST_CHOICES)
+    check_most(most)
     waiting = [((), Machine(rules_of(program, guards)))]
     while waiting:
         choices, machine = waiting.pop()
