@@ -80,7 +80,7 @@ class Book:
         return steps_to_wrong(self._things[name])
 
     def changes(self, kind):
-        """The sorted list of the programs that would be safe no more, or would be safe only then, with this kind put."""
+        """The sorted list of the programs that are safe either now or with this kind put, but not both."""
         found = []
         for name in self._programs_with(kind.name):
             program = self._things[name]

@@ -24,7 +24,7 @@ class KindLines:
 
     def __init__(self):
         self._many = 0
-        self.name = ""
+        self.kind_name = ""
         self._start = ""
         self._ends = []
         self._moves = {}
@@ -37,7 +37,7 @@ class KindLines:
 
     def kind(self):
         """The kind of these lines."""
-        return Kind(self.name, self._start, self._ends, self._moves)
+        return Kind(self.kind_name, self._start, self._ends, self._moves)
 
     def takes(self, line):
         """Takes the next line; whether it can stand here."""
@@ -53,7 +53,7 @@ class KindLines:
         if first != ("kind" if self._many == 1 else "start") or len(names) != 1:
             return False
         if self._many == 1:
-            self.name = names[0]
+            self.kind_name = names[0]
         else:
             self._start = names[0]
             self._states[names[0]] = True
@@ -245,9 +245,9 @@ class ProgramLines:
 
     def _takes_first(self, line):
         """The first line of a kind."""
-        known = [one.name for one in self._kinds]
+        known = [one.kind_name for one in self._kinds]
         self._kinds.append(KindLines())
-        return self._kinds[-1].takes(line) and self._kinds[-1].name not in known and len(known) < MOST_KINDS
+        return self._kinds[-1].takes(line) and self._kinds[-1].kind_name not in known and len(known) < MOST_KINDS
 
     def _takes_function(self, line):
         """The first line of a function."""
