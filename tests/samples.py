@@ -93,3 +93,20 @@ def no_words():
 
 def no_rows():
     return texts_that_are_no_names() + ["a", "ab"] + no_texts()
+
+
+def no_integers():
+    return ["", "a", "1"] + [thing for thing in no_texts() if isinstance(thing, bool) or not isinstance(thing, int)] + rows()
+
+
+def no_numbers(least, most):
+    """Things that are no integers within these bounds."""
+    return no_integers() + [least - 1, most + 1, 10 ** 30 - 1, -10 ** 29]
+
+
+def no_choices():
+    """Pairs of the index of the first wrong element and of what is no row of choices."""
+    found = [(-1, thing) for thing in no_rows() + [0, 1, "1", {0: 1}, {0, 1}]]
+    for thing in no_integers() + [-1, -10 ** 29]:
+        found += [(0, [thing]), (2, (0, 1, thing, thing, -1)), (999, [10 ** 29] * 999 + [thing])]
+    return found

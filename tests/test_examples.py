@@ -84,6 +84,45 @@ SECTION_12 = '''
 ((('LOST', 'b'), ('no', 'c')), ('a', 'b', 'e', 'g'))
 '''
 
+SECTION_13 = '''
+>>> from rightstate.built import Built, inferred, played, shapes
+>>> begin = (("has", "f", (("say", "no"),), ()), ("new", "f", "file"), ("call", "f", "open"), ("say", "yes"))
+>>> reader = Built("reader", [calm], ["f"], [("begin", begin), ("end", (("call", "f", "close"), ("none", "f")))])
+>>> inferred(reader).moves()
+{('a', 'begin'): (('yes', 'b'),), ('b', 'begin'): (('no', 'b'),), ('b', 'end'): (('no', 'a'),)}
+>>> inferred(reader).ends, shapes(reader)
+(('a',), {'a': ((0,), ()), 'b': ((1,), (('file', 'open'),))})
+>>> played(reader, ["begin", "end", "end"], [])
+([('begin', 'yes', ((1,), (('file', 'open'),))), ('end', 'no', ((0,), ()))], ('wrong', 2, (1, 0), ('nothing',)))
+'''
+
+SECTION_14 = '''
+>>> from rightstate.live import Live, used
+>>> live = Live(file, [1])
+>>> live("open"), live.state, "open" in live, live.left
+(False, 'open', False, 0)
+>>> used(live, ["read", "close"]), live.told()[1:], live.held
+([False, False], [('open', 'read', 'no', 'last'), ('last', 'close', 'no', 'shut')], False)
+'''
+
+SECTION_15 = '''
+>>> from rightstate.texts import kind_text, program_text, read_program
+>>> kind_text(calm).splitlines()
+['kind file', 'start new', 'ends new shut', '  last close: no shut', '  new open: no open', '  open close: no shut', '  open read: no last, yes open']
+>>> program_text(program).splitlines()[8:]
+['  f = new file', '  g = twice(f, f)', '  with f', 'def twice(a, b)', '  maybe', '    a.open()', '  return b']
+>>> read_program(program_text(program)) == program
+True
+'''
+
+SECTION_16 = '''
+>>> from rightstate.book import Book
+>>> book = Book()
+>>> book["twice"] = program
+>>> book.names(), book.verdict("twice"), book.changes(calm), len(book)
+(['file', 'twice'], (7, (0, 2), ('barred', 'file', 'new', 'enter')), [], 2)
+'''
+
 README = os.path.join(os.path.dirname(os.path.dirname(os.path.abspath(__file__))), "README.md")
 
 
@@ -96,7 +135,9 @@ class Examples(unittest.TestCase):
         self.assertEqual(result.failed, 0, "".join(said))
 
     def test_document(self):
-        self.run_examples("".join([SECTION_4, SECTION_5, SECTION_6, SECTION_7, SECTION_9, SECTION_10, SECTION_11, SECTION_12]), "the document")
+        sections = [SECTION_4, SECTION_5, SECTION_6, SECTION_7, SECTION_9, SECTION_10, SECTION_11, SECTION_12, SECTION_13,
+                    SECTION_14, SECTION_15, SECTION_16]
+        self.run_examples("".join(sections), "the document")
 
     def test_readme(self):
         with open(README, encoding="utf-8") as file:
