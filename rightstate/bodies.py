@@ -5,7 +5,7 @@ going through: a statement like the one ahead of it is known by being equal to i
 all bodies, and a place is written out only if it is wrong.
 """
 
-from rightstate.forms import PARTS, are_handlers, is_part
+from rightstate.forms import PARTS, are_unlike_errors, is_name, is_part
 
 MOST_VARIABLES = 5
 MOST_STATEMENTS = 200
@@ -29,8 +29,8 @@ class Reader:
     words are the first words that statements may have; kinds are the names of the kinds; counts is the dict from
     the functions that may be run to how many parameters they have.
 
-    Places are pairs of what is ahead and the last number, until they are told. Around is the tuple of how many
-    blocks, loops and withs are around a statement.
+    Places are pairs of what is ahead and the last number, until they are told. Of what is around a statement, blocks,
+    loops and withs are passed: how many there are of these.
     """
 
     def __init__(self, words, kinds, counts):
@@ -39,6 +39,8 @@ class Reader:
         self._counts = counts
         # From each form that was looked at to the variables in it; None if it is wrong.
         self._forms = {}
+        # The rows of errors of handlers that were looked at and are right.
+        self._errors = {}
         # Of the body that is read: its variables, the forms met in it, how many statements, and the last one of these
         # without blocks if it may stand at the next place, too.
         self._named = {}
@@ -56,7 +58,7 @@ class Reader:
         self._met = {}
         self._many = 0
         self._last = None
-        told = self._block(body, number, (0, 0, 0))
+        told = self._block(body, number, 0, 0, 0)
         return list(self._named), told
 
     def _refuse(self, place):
@@ -68,96 +70,134 @@ class Reader:
         found.reverse()
         self.refuse(tuple(found))
 
-    def _block(self, rows, ahead, around):
-        """A block in tuples; ahead is its place."""
+    def _block(self, rows, place, blocks, loops, withs):
+        """A block in tuples."""
+        if len(rows) == 0:
+            return ()
+        if blocks > MOST_BLOCKS:
+            self._refuse((place, 0))
+        # There are as many found as statements were gone through, so that their number tells where one stands.
         found = []
-        if around[0] > MOST_BLOCKS and len(rows) > 0:
-            self._refuse((ahead, 0))
         last = self._last
         many = self._many
-        for at, statement in enumerate(rows):
+        for statement in rows:
             many += 1
             if many > MOST_STATEMENTS:
-                self._refuse((ahead, at))
+                self._refuse((place, len(found)))
             if statement == last and last is not None:
                 found.append(last)
                 continue
-            if not isinstance(statement, tuple) or len(statement) == 0:
-                statement = self._as_tuple(statement, (ahead, at))
-            if isinstance(statement[0], str) and statement[0] in SHAPES:
+            if not isinstance(statement, tuple):
+                statement = self._as_tuple(statement, (place, len(found)))
+            if len(statement) == 0 or not isinstance(statement[0], str):
+                self._refuse((place, len(found)))
+            if statement[0] in SHAPES:
                 self._many = many
-                found.append(self._with_blocks(statement, (ahead, at), around))
+                found.append(self._with_blocks(statement, (place, len(found)), blocks, loops, withs))
                 many = self._many
                 last = self._last
             else:
-                last = self._simple(statement, (ahead, at), around)
+                last = self._simple(statement, (place, len(found)), loops)
                 self._last = last
                 found.append(last)
         self._many = many
         return tuple(found)
 
     def _as_tuple(self, statement, place):
-        if not isinstance(statement, list) or len(statement) == 0:
+        if not isinstance(statement, list):
             self._refuse(place)
         return tuple(statement)
 
-    def _simple(self, statement, place, around):
+    def _simple(self, statement, place, loops):
         """A statement without blocks in tuples."""
+        if len(statement) == 3:
+            _, first, second = statement
+            # Most statements are of this form and were met already.
+            if isinstance(first, str) and isinstance(second, str) and statement in self._met:
+                return statement
         if statement[0] == "run":
             return self._run(statement, place)
         self._meet(statement, place)
-        if around[1] == 0 and statement[0] in ("leave", "again"):
+        if loops == 0 and statement[0] in ("leave", "again"):
             self._refuse(place)
         return statement
 
     def _run(self, statement, place):
+        """A statement that runs a function, in tuples; most of these are unlike, so that forms are of no use."""
         if len(statement) != 4 or not isinstance(statement[3], (list, tuple)):
             self._refuse(place)
-        args = tuple(statement[3])
-        self._meet(statement[:3] + args, place)
-        return statement[:3] + (args,)
+        word, result, function, args = statement
+        if not isinstance(function, str) or self._counts.get(function) != len(args):
+            self._refuse(place)
+        args = tuple(args)
+        for variable in args if result is None else (result,) + args:
+            if not isinstance(variable, str):
+                self._refuse(place)
+            if variable not in self._named:
+                if not is_name(variable):
+                    self._refuse(place)
+                self._named[variable] = True
+        if len(self._named) > MOST_VARIABLES:
+            self._refuse(place)
+        return (word, result, function, args)
 
-    def _with_blocks(self, statement, place, around):
+    def _with_blocks(self, statement, place, blocks, loops, withs):
         """A statement with blocks in tuples, all that stands in them, too."""
         word = statement[0]
-        if word == "try":
-            return self._tried(statement, place, around)
         ahead, whole = SHAPES[word]
-        if len(statement) != whole or not isinstance(statement[ahead], (list, tuple)):
+        if len(statement) != whole:
             self._refuse(place)
-        if not isinstance(statement[-1], (list, tuple)):
+        if word == "try":
+            return self._tried(statement, place, blocks + 1, loops, withs)
+        first = statement[ahead]
+        second = statement[-1]
+        if not (isinstance(first, list) or isinstance(first, tuple)):
+            self._refuse(place)
+        if not (isinstance(second, list) or isinstance(second, tuple)):
             self._refuse(place)
         head = statement[:ahead]
         if ahead > 1:
             self._meet(head, place)
-        blocks, loops, withs = around
         if word == "loop":
-            block = self._block(statement[1], (place, 0), (blocks + 1, loops + 1, withs))
+            block = self._block(first, (place, 0), blocks + 1, loops + 1, withs)
             # What may stand in a loop need not be right behind it.
             self._last = None
             return (word, block)
         if word == "with":
             if withs == MOST_WITHS:
                 self._refuse(place)
-            return head + (self._block(statement[2], (place, 0), (blocks + 1, loops, withs + 1)),)
-        inside = (blocks + 1, loops, withs)
-        first, second = statement[-2:]
+            return head + (self._block(first, (place, 0), blocks + 1, loops, withs + 1),)
         # Many blocks are empty; they are not gone into.
-        first = self._block(first, (place, 0), inside) if len(first) > 0 else ()
-        return head + (first, self._block(second, (place, 1), inside) if len(second) > 0 else ())
+        first = self._block(first, (place, 0), blocks + 1, loops, withs) if first else ()
+        return head + (first, self._block(second, (place, 1), blocks + 1, loops, withs) if second else ())
 
-    def _tried(self, statement, place, around):
-        if len(statement) != 3 or not isinstance(statement[1], (list, tuple)):
+    def _tried(self, statement, place, blocks, loops, withs):
+        _, block, handlers = statement
+        if not isinstance(block, (list, tuple)) or not isinstance(handlers, (list, tuple)):
             self._refuse(place)
-        if not isinstance(statement[2], (list, tuple)) or (len(statement[2]) > 0 and not are_handlers(statement[2])):
+        told = [self._handler(handler, place) for handler in handlers] if handlers else []
+        first = self._block(block, (place, 0), blocks, loops, withs)
+        found = []
+        for number, (errors, inside) in enumerate(told):
+            found.append((errors, self._block(inside, (place, number + 1), blocks, loops, withs)))
+        return ("try", first, tuple(found))
+
+    def _handler(self, handler, place):
+        """A pair of the errors of a handler, in a tuple, and its block as it is passed."""
+        if not isinstance(handler, (list, tuple)) or len(handler) != 2:
             self._refuse(place)
-        blocks, loops, withs = around
-        inside = (blocks + 1, loops, withs)
-        first = self._block(statement[1], (place, 0), inside)
-        handlers = []
-        for number, (errors, block) in enumerate(statement[2]):
-            handlers.append((tuple(errors), self._block(block, (place, number + 1), inside)))
-        return ("try", first, tuple(handlers))
+        errors, block = handler
+        if not isinstance(errors, (list, tuple)) or not isinstance(block, (list, tuple)):
+            self._refuse(place)
+        told = tuple(errors)
+        for error in told:
+            if not isinstance(error, str):
+                self._refuse(place)
+        if told not in self._errors:
+            if not are_unlike_errors(told):
+                self._refuse(place)
+            self._errors[told] = True
+        return told, block
 
     def _meet(self, form, place):
         """Looks at the parts of a statement but its blocks, and names the variables among them."""
@@ -183,10 +223,6 @@ class Reader:
         if word not in self._words:
             return None
         sorts = PARTS[word]
-        if word == "run":
-            sorts = sorts + ("variable",) * (len(form) - 3)
-            if self._counts.get(form[2]) != len(form) - 3:
-                return None
         if len(form) != len(sorts) + 1 or not all([is_part(part, sort) for part, sort in zip(form[1:], sorts)]):
             return None
         if word == "new" and form[2] not in self._kinds:
