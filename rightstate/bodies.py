@@ -23,6 +23,7 @@ SHAPES = {
     "with": (2, 3),
 }
 
+
 class Reader:
     """Reads bodies, one after the other.
 

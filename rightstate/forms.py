@@ -101,11 +101,6 @@ def frozen(thing):
     return thing
 
 
-def are_handlers(thing):
-    """Whether this is a row of pairs of unlike errors and a row."""
-    return is_row(thing) and all([is_pair(one) and are_unlike_errors(one[0]) and is_row(one[1]) for one in thing])
-
-
 def is_part(thing, sort):
     """Whether this is a part of this sort of a statement."""
     if sort == "error":

@@ -397,6 +397,14 @@ class Played(unittest.TestCase):
         self.assertEqual(played(built, ["m"] * 100, []), ([("m", "no", NONE)] * 100, ("ended",)))
         self.assertEqual(played(built, ["m"] * 100, [], most=499)[1], ("spent",))
 
+    def test_five_hundred_steps_if_nothing_is_told(self):
+        # By 99 calls of five steps and one of so many more.
+        for many, end in ((4, ("ended",)), (5, ("spent",)), (6, ("spent",))):
+            built = Built("c", KINDS, ["f"], [("m", [("none", "f")] * 4), ("n", [("none", "f")] * many)])
+            self.assertEqual(played(built, ["m"] * 99 + ["n"], [])[1], end)
+            self.assertEqual(played(built, ["m"] * 99 + ["n"], [], most=500)[1], end)
+            self.assertEqual(played(built, ["m"] * 99 + ["n"], [], most=502)[1], ("ended",))
+
     def test_choices_are_counted_through_all_calls(self):
         built = one_method(("maybe", (SAY,), ()))
         self.assertEqual([answer for _, answer, _ in played(built, ["m"] * 5, [0, 1, 3, 4])[0]], ["yes", "no", "no", "yes"])

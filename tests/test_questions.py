@@ -250,6 +250,23 @@ class Bounds(unittest.TestCase):
                         ask(program, *given)
                     self.assertEqual(caught.exception.many, 4000)
 
+    def test_summaries_that_have_too_many_rows_together(self):
+        # By yes the function runs the one, by no the other; an object in the state both needs the rows of both.
+        ways = {("one", "ask"): [("yes", "one")], ("two", "ask"): [("no", "two")], ("both", "ask"): [("yes", "one"), ("no", "two")]}
+        inside = ("has", "a", (("test", "a", "ask", (("run", None, "g", ()),), (("run", None, "h", ()),)),), ())
+        others = (("f", ("a",), (inside,)), ("g", (), wide_body(3970)), ("h", (), wide_body(3970)))
+        for states in (["one", "two"], ["one", "two", "both"]):
+            asked = Kind("asked", "one", states, {key: row for key, row in ways.items() if key[0] in states})
+            program = program_of((), *others, kinds=[asked, WIDE])
+            if "both" in states:
+                with self.assertRaises(TooMany) as caught:
+                    needs(program, "f")
+                self.assertEqual(caught.exception.many, 4000)
+                self.assertRaises(TooMany, summary, program, "f", ((1,), (("asked", "both"),)))
+            else:
+                entries = [((0,), ())] + [((1,), (("asked", state),)) for state in states]
+                self.assertEqual(needs(program, "f"), entries)
+
     def test_four_thousand_rows(self):
         for guards in ([], [(0, 5)]):
             program = wide_program(4000)

@@ -334,6 +334,15 @@ class Bounds(unittest.TestCase):
                     self.assertRaises(TooMany, ask, one, bad, *given)
                 self.assertRaises(TooMany, stand_ins, [one, bad])
 
+    def test_histories_that_one_of_the_kinds_cannot_have_are_not_counted(self):
+        one = counted(4000)
+        moves = one.moves()
+        moves["sa", "m"] = [("yes", "sb"), ("Z", "zz")]
+        more = Kind("great", "sa", one.ends + ("zz",), moves)
+        self.assertEqual(parted(one, more), ((), ("word", "m", "Z")))
+        self.assertEqual(pairing(more, one), pairing(one, one))
+        self.assertRaises(TooMany, parted, more, more)
+
     def test_too_many_pairs_come_ahead_of_too_long_histories(self):
         moves = counted(4001).moves()
         moves["aa", "n"] = []

@@ -260,7 +260,7 @@ class Read(unittest.TestCase):
         self.check_program(1, "start a\n")
 
     def test_lines_of_functions(self):
-        wrong = ("def", "def ", "def main", "def main(", "def main)", "def main():", "def main() ", "def  main()", " def main()", "def main ()",
+        wrong = ("def", "def ", "def main", "def main(a", "def main(a, b", "def main(a, b,", "fed main()", "def main(", "def main)", "def main():", "def main() ", "def  main()", " def main()", "def main ()",
                      "def Main()", "def main(a,b)", "def main(a, )", "def main( a)", "def main(a b)", "def main(, a)", "def main(A)",
                      "def main((a))", "def main(a)(b)", "def ()", "def mainmainm()", "", "main()", "start s", "wait")
         for line in wrong:
@@ -275,7 +275,8 @@ class Read(unittest.TestCase):
                      "leave()x", "again x", "try x", "with", "with ", "with x as y", "with X", "with x:", "wait x", "return ", "return None", "return x y", "return X",
                      "return x()", "raise", "raise e", "raise E F", "raise Ee", "raise E ", "f(", "f)", "f(a", "f(a,b)", "f(a, b,)", "f(a b)", "f (a)", "f(A)",
                      "f(a)(b)", "x = f(a", "x = f a", "X = f(a)", "x y = f(a)", "x = = f(a)", "None = f(a)", "x = None()", "None", "def f()", "kind k", "say yes",
-                     "x = new y z", "", "pass", "x\t= y", "f(f(a))", "if f(a)", "return f(a)", "x.f(a)", "f()x", "abcdefghi = x", "x = abcdefghi"):
+                     "x = new y z", "", "pass", "x\t= y", "f(f(a))", "if f(a)", "of x is y", "x is y", "if X is y", "if x is Y", "F(a)", "1()", "()", "of x.m()", "if y x.m()", "x x.m()", "y x = f(a)",
+                     "X = new k", "of x = y", "return f(a)", "x.f(a)", "f()x", "abcdefghi = x", "x = abcdefghi"):
             self.check_body(1, "  " + line)
             self.check_body(3, "  if x", "    wait", "    " + line)
             self.check_body(2, "  loop", "    " + line, "  nothing at all")
