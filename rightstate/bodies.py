@@ -81,6 +81,7 @@ class Reader:
         found = []
         last = self._last
         many = self._many
+        met = self._met
         for statement in rows:
             many += 1
             if many > MOST_STATEMENTS:
@@ -89,33 +90,28 @@ class Reader:
                 found.append(last)
                 continue
             if not isinstance(statement, tuple):
-                statement = self._as_tuple(statement, (place, len(found)))
+                statement = tuple(statement) if isinstance(statement, list) else ()
             if len(statement) == 0 or not isinstance(statement[0], str):
                 self._refuse((place, len(found)))
             if statement[0] in SHAPES:
                 self._many = many
+                self._last = last
                 found.append(self._with_blocks(statement, (place, len(found)), blocks, loops, withs))
                 many = self._many
                 last = self._last
-            else:
-                last = self._simple(statement, (place, len(found)), loops)
-                self._last = last
-                found.append(last)
+                continue
+            # Most statements have one or two parts more, and were met already.
+            if not (1 < len(statement) < 4 and isinstance(statement[1], str) and isinstance(statement[-1], str)
+                    and statement in met):
+                statement = self._simple(statement, (place, len(found)), loops)
+            last = statement
+            found.append(statement)
         self._many = many
+        self._last = last
         return tuple(found)
-
-    def _as_tuple(self, statement, place):
-        if not isinstance(statement, list):
-            self._refuse(place)
-        return tuple(statement)
 
     def _simple(self, statement, place, loops):
         """A statement without blocks in tuples."""
-        if len(statement) == 3:
-            _, first, second = statement
-            # Most statements are of this form and were met already.
-            if isinstance(first, str) and isinstance(second, str) and statement in self._met:
-                return statement
         if statement[0] == "run":
             return self._run(statement, place)
         self._meet(statement, place)
@@ -157,7 +153,7 @@ class Reader:
         if not (isinstance(second, list) or isinstance(second, tuple)):
             self._refuse(place)
         head = statement[:ahead]
-        if ahead > 1:
+        if ahead > 1 and not (isinstance(head[1], str) and isinstance(head[-1], str) and head in self._met):
             self._meet(head, place)
         if word == "loop":
             block = self._block(first, (place, 0), blocks + 1, loops + 1, withs)

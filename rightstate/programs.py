@@ -46,8 +46,8 @@ def _read_program(kinds, functions):
     if counts.get("main") != 0:
         raise BadProgram(())
     # No function runs main.
-    runs = {name: counts[name] for name in counts if name != "main"}
-    reader = ProgramReader(WORDS, {kind.name: True for kind in kinds}, runs)
+    others = {name: counts[name] for name in counts if name != "main"}
+    reader = ProgramReader(WORDS, {kind.name: True for kind in kinds}, others)
     told = []
     variable_rows = []
     for number, (name, params, body) in enumerate(functions):
