@@ -65,7 +65,7 @@ def needs(program, function, *, guards=()):
     activations = [search.explore(number, entry) for entry in entries]
     summed = Sums(search)
     safe = [summed.is_safe(activation) for activation in activations]
-    return sorted([entry for entry, is_safe in zip(entries, safe) if is_safe])
+    return sorted([entry for entry, right in zip(entries, safe) if right])
 
 
 def _entries_of(flow, number):
